@@ -1,0 +1,1 @@
+"""Buildroom: builds that make old texts new, held against clean ones."""
