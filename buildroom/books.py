@@ -113,10 +113,15 @@ def told_paths(rule):
     return told
 
 
+def rule_table(book):
+    """A dict, ascending: for each made path its rule."""
+    return {rule[0]: rule for rule in sorted(book.rules)}
+
+
 def told_made(book):
     """A dict, ascending: for each made path the made paths, ascending, that its rule tells to look at."""
-    rules = {rule[0]: rule for rule in book.rules}
-    return {made: sorted({path for path in told_paths(rules[made]) if path in rules}) for made in sorted(rules)}
+    rules = rule_table(book)
+    return {made: sorted({path for path in told_paths(rule) if path in rules}) for made, rule in rules.items()}
 
 
 def are_unlike_keys(value, table):

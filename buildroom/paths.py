@@ -19,9 +19,7 @@ def names_in(tree, folder):
     """The names that come directly behind the folder, ascending, each once."""
     check_tree(tree)
     check_folder(folder)
-    begin = len(folder) + 1 if folder else 0
-    names = [path[begin:].split("/")[0] for path in dict(tree) if lies_within(path, folder)]
-    return tuple(sorted(set(names)))
+    return names_behind(dict(tree), folder)
 
 
 def put(tree, path, text):
@@ -57,6 +55,13 @@ def differing(one, other):
     return [path for path in paths if first.get(path) != second.get(path)]
 
 
+def names_behind(files, folder):
+    """The names, ascending, each once, that come directly behind the folder in the keys of a table of files."""
+    begin = len(folder) + 1 if folder else 0
+    names = [path[begin:].split("/")[0] for path in files if lies_within(path, folder)]
+    return tuple(sorted(set(names)))
+
+
 def lies_within(path, folder):
     """Whether the path lies within the folder; none lies within itself."""
     return folder == "" or path.startswith(folder + "/")
@@ -87,7 +92,12 @@ def is_folder(value):
 
 def is_text(value):
     """Whether any value is a text."""
-    if not isinstance(value, str) or len(value) > LONGEST_TEXT:
+    return has_signs(value, LONGEST_TEXT)
+
+
+def has_signs(value, most):
+    """Whether any value is a string of at most so many signs, each one that a text may have."""
+    if not isinstance(value, str) or len(value) > most:
         return False
     return all([" " <= sign <= "~" or sign == "\n" for sign in value])
 
