@@ -127,9 +127,9 @@ class Bench:
         if self.way == "moments":
             return seen + (self.later_pairs(),)
         if self.way == "records":
-            return seen + (tuple([(made, self.kept[made][1:]) for made in sorted(self.kept)]),)
+            return seen + (tuple([(made,) + self.kept[made][1:] for made in sorted(self.kept)]),)
         if self.way == "whole":
-            return seen + (tuple([(made, self.kept[made]) for made in sorted(self.kept)]),)
+            return seen + (tuple([(made,) + self.kept[made] for made in sorted(self.kept)]),)
         return seen
 
     def later_pairs(self):

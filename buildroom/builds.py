@@ -24,7 +24,7 @@ class Build(Making):
             for aim in self.bench.aims:
                 self.make_aim(aim)
         except CutOff:
-            return tuple(self.begun)
+            pass
         return tuple(self.begun)
 
     def empty(self, made):

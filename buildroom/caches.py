@@ -20,7 +20,7 @@ class Store:
     def __init__(self, room, kind, entries):
         if not is_from_to(room, 0, MOST_ROOM):
             raise BadNumber(room)
-        if not isinstance(kind, str) or kind not in KINDS:
+        if kind not in KINDS:
             raise BadKind()
         check_entries(entries)
         self._room = room
@@ -105,7 +105,7 @@ class StoreBuild(Making):
         """Take the text of an entry that sees the same now, or run the rule."""
         for is_near, entry in self.store.entries_of(self.table[made]):
             if self.sees_the_same(entry[1]):
-                self.find(is_near, made, entry)
+                self.take(is_near, made, entry)
                 return
         looks = self.looks_of_run(made)
         text = text_of(outcome_by(self.table[made], looks))
@@ -114,7 +114,7 @@ class StoreBuild(Making):
             self.left[made] = text
             self.store.note_made((self.table[made], looks, text))
 
-    def find(self, is_near, made, entry):
+    def take(self, is_near, made, entry):
         """Take the text of an entry."""
         self.left[made] = entry[2]
         self.store.note_found(is_near, entry)

@@ -68,7 +68,7 @@ def is_shelf(value):
     """Whether any value is a kind of shelf."""
     if not isinstance(value, tuple) or len(value) != 2:
         return False
-    return isinstance(value[0], str) and value[0] in SHELF_RULES and is_from_to(value[1], 1, MOST_KEPT)
+    return value[0] in SHELF_RULES and is_from_to(value[1], 1, MOST_KEPT)
 
 
 def check_shelf(value):

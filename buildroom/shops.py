@@ -40,7 +40,7 @@ def first_wrong(shop, way):
     """The least of the shortest rows that end with a build, behind which the builder is not right, or None."""
     check_shop(shop)
     check_way(way)
-    return first_row(shop, (way,), is_wrong)
+    return first_row(shop, (way,), ("build",), is_wrong)
 
 
 def always_right(shop, way):
@@ -52,7 +52,7 @@ def first_needless(shop, way):
     """The least of the shortest rows that end with a build that runs a rule for just the text that lay there."""
     check_shop(shop)
     check_way(way)
-    return first_row(shop, (way,), is_needless)
+    return first_row(shop, (way,), ("build",), is_needless)
 
 
 def first_apart(shop, one, other):
@@ -60,7 +60,7 @@ def first_apart(shop, one, other):
     check_shop(shop)
     check_way(one)
     check_way(other)
-    return first_row(shop, (one, other), is_apart)
+    return first_row(shop, (one, other), ("build", "cut"), is_apart)
 
 
 def follow(shop, way, row):
@@ -79,11 +79,14 @@ def left_by(shop, way, row):
     return (tuple(sorted(bench.sources.items())), tuple(sorted(bench.left.items())))
 
 
-def first_row(shop, ways, ends):
-    """The least of the shortest rows with whose last step, done at a bench of each way, a search ends, or None.
+def first_row(shop, ways, words, ends):
+    """The least of the shortest rows whose last step has one of the words, and ends the search, or None.
 
-    Rows behind which all benches stand alike go on alike, so just the first of them is gone on with.
+    The steps are done at a bench of each way. Rows behind which all benches stand alike go on alike, so just the first
+    of them is gone on with.
     """
+    if not any([step[0] in words for step in shop.steps]):
+        return None
     start = [shop.new_bench(way) for way in ways]
     seen = {tuple([bench.standing() for bench in start]): True}
     level = [((), start)]
@@ -93,7 +96,7 @@ def first_row(shop, ways, ends):
             for number, step in enumerate(shop.steps):
                 moved = [bench.copy() for bench in benches]
                 ran = [bench.do(step) for bench in moved]
-                if ends(step, ran, benches, moved):
+                if step[0] in words and ends(ran, benches, moved):
                     return row + (number,)
                 standing = tuple([bench.standing() for bench in moved])
                 if standing not in seen:
@@ -103,20 +106,20 @@ def first_row(shop, ways, ends):
     return None
 
 
-def is_wrong(step, ran, ahead, behind):
-    """Whether a step is a build behind which the first bench is not right."""
-    return step[0] == "build" and not behind[0].is_right()
+def is_wrong(ran, ahead, behind):
+    """Whether the bench is not right behind a step."""
+    return not behind[0].is_right()
 
 
-def is_needless(step, ran, ahead, behind):
-    """Whether a step is a build that runs a rule for just the text that lay there ahead of it."""
+def is_needless(ran, ahead, behind):
+    """Whether a rule ran by a step, and left just the text that lay at its path ahead of it."""
     lay, lies = ahead[0].left, behind[0].left
-    return step[0] == "build" and any([made in lay and lies.get(made) == lay[made] for made in ran[0]])
+    return any([made in lay and lies.get(made) == lay[made] for made in ran[0]])
 
 
-def is_apart(step, ran, ahead, behind):
-    """Whether a step is a build or cut by which the benches run other rules, or leave something else."""
-    return step[0] in ("build", "cut") and (ran[0] != ran[1] or behind[0].left != behind[1].left)
+def is_apart(ran, ahead, behind):
+    """Whether other rules ran at one bench than at the other one by a step, or something else lies there."""
+    return ran[0] != ran[1] or behind[0].left != behind[1].left
 
 
 def check_steps(value, books):

@@ -44,23 +44,24 @@ def behind_counts(room, state, thing):
 
 
 def behind_lots(room, state, thing):
-    """What next_state tells of a shelf that knows all requests: behind counts down from the best of all now."""
-    ahead = {}
+    """What next_state tells of a shelf that knows all requests: hits are counted from those of the best of all."""
+    ways = []
     for lot, behind in state:
         if thing in lot:
-            note_hits(ahead, lot, 1 - behind)
-        elif len(lot) < room:
-            note_hits(ahead, tuple(sorted(lot + (thing,))), -behind)
+            ways.append((lot, 1 - behind))
         else:
-            for out in lot:
-                note_hits(ahead, tuple(sorted(laid_last(lot, out)[:-1] + (thing,))), -behind)
-    best = max(list(ahead.values()))
-    return (best == 1, tuple([(lot, best - ahead[lot]) for lot in sorted(ahead) if best - ahead[lot] < room]))
+            ways.extend([(other, -behind) for other in lots_with(room, lot, thing)])
+    # Ascending, so of several ways to a lot the best one stays.
+    hits = {lot: many for lot, many in sorted(ways)}
+    best = max(list(hits.values()))
+    return (best == 1, tuple([(lot, best - hits[lot]) for lot in hits if best - hits[lot] < room]))
 
 
-def note_hits(ahead, lot, hits):
-    """Note in a table by how many hits the best way to a lot is ahead."""
-    ahead[lot] = max(hits, ahead.get(lot, hits))
+def lots_with(room, lot, thing):
+    """The lots that can lie there behind a request for a thing that is not in the lot."""
+    if len(lot) < room:
+        return [tuple(sorted(lot + (thing,)))]
+    return [tuple(sorted(laid_last(lot, out)[:-1] + (thing,))) for out in lot]
 
 
 def is_state(kind, things, value):

@@ -242,6 +242,21 @@ class Rings(unittest.TestCase):
             self.assertEqual(told(builder, BUILD, BUILD), [("w", "x", "q", "p"), ("w", "q", "p")])
             self.assertEqual(told(builder, ("drop", "s"), BUILD), [(), ("w", "x")])
 
+    def test_a_run_from_ahead_of_a_ring_is_not_kept(self):
+        # Behind the first build a run without a text is kept; if it still were behind the ring, nothing would be old.
+        books = (Book((("a", "choose", "s", "b", "no"), ("b", "join", ("t", "a")))),)
+        for way in ("records", "whole"):
+            builder = Builder(books, (("s", "no"), ("t", "x")), ("a", "b"), way)
+            self.assertEqual(told(builder, BUILD, BUILD), [("a", "b"), ()])
+            self.assertEqual(told(builder, ("write", "s", "yes"), BUILD), [(), ("a",)])
+            self.assertEqual(told(builder, ("write", "s", "no"), BUILD, BUILD), [(), ("a", "b"), ()])
+
+    def test_what_is_spoiled_behind_a_ring_is_not_that_of_a_run(self):
+        books = (Book((("a", "choose", "s", "a", "t"),)),)
+        builder = Builder(books, (("s", "no"), ("t", "x")), ("a",), "records")
+        self.assertEqual(told(builder, BUILD, ("write", "s", "yes"), BUILD, ("write", "s", "no"), ("spoil", "a", "x")), [("a",), (), ("a",), (), ()])
+        self.assertEqual([builder.right(), builder.do(BUILD)], [True, ("a",)])
+
     def test_a_ring_that_is_come_to_only_on_the_way(self):
         books = (Book((("a", "choose", "s", "b", "t"), ("b", "join", ("t", "a")))),)
         for way, builder in builders(books, (("s", "no"), ("t", "x")), ("a", "b")):

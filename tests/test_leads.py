@@ -261,24 +261,36 @@ class Papers(unittest.TestCase):
         self.assertIs(lead_shows(kind, kind, 2, 0, paper + [(((0, 1), (1,)), -9)]), False)
 
     def test_forms_of_states(self):
-        bad = {"eldest": ([0], (0, 0), (0, 1, 2), (3,), (-1,), (True,), ((0, 1),), None, "0", (None,), ([0],), 0),
-               "seldom": (((0, 0),), ((0, 3),), ((0, True),), ((0, 1), (0, 2)), ((0, 1), (1, 1), (2, 1)), ((3, 1),), ((False, 1),), (0,), ((0,),), ([0, 1],), ((0, 1, 1),),
-                          [(0, 1)], ((0, None),)),
-               "best": ((), (((0,), 1),), (((0,), 2), ((1,), 0)), (((0,), -1), ((1,), 0)), (((0,), 0), ((0,), 0)), (((1,), 0), ((0,), 0)), (((1, 0), 0),), (((0, 0), 0),),
-                        (((0, 1, 2), 0),), (((3,), 0),), (((0,), False),), (((True,), 0),), ((0, 0),), (([0], 0),), (((0,),),), ([(0,), 0],), [((0,), 0)], (((0,), 0, 0),))}
-        bad["lately"] = bad["newest"] = bad["eldest"]
-        good = {"eldest": ((), (0,), (2, 1)), "seldom": ((), ((0, 2),), ((2, 1), (0, 2))),
-                "best": ((((), 0),), (((0,), 0),), (((), 0), ((0,), 1), ((0, 1), 1), ((2,), 0)), (((0, 1), 0), ((0, 2), 0)))}
-        good["lately"] = good["newest"] = good["eldest"]
+        things = ((), (0,), (2, 1)), ([0], None, "0", (None,), ([0],), 0, ((0, 1),)), ((0, 0), (0, 1, 2), (3,), (-1,))
+        pairs = ((), ((0, 2),), ((2, 1), (0, 2))), (((0, None),), (0,), ((0,),), ([0, 1],), ((0, 1, 1),), [(0, 1)]), (
+            ((0, 0),), ((0, 3),), ((0, 1), (0, 2)), ((0, 1), (1, 1), (2, 1)), ((3, 1),), ((-1, 1),))
+        lots = ((((), 0),), (((0,), 0),), (((), 0), ((0,), 1), ((0, 1), 1), ((2,), 0)), (((0, 1), 0), ((0, 2), 0))), (
+            (), ((0, 0),), (([0], 0),), (((0,),),), ([(0,), 0],), [((0,), 0)], (((0,), 0, 0),), (((0,), None),), ((None, 0),)), (
+            (((0,), 1),), (((0,), 2), ((1,), 0)), (((0,), -1), ((1,), 0)), (((0,), 0), ((0,), 0)), (((1,), 0), ((0,), 0)), (((1, 0), 0),),
+            (((0, 0), 0),), (((0, 1, 2), 0),), (((3,), 0),), (((-1,), 0),), (((0,), 0), ((1, 2), 1), ((1,), 0)))
         for rule in RULES:
-            kind = (rule, 2)
-            closed = self.closed(kind, good[rule])
+            kind, (good, others, bad) = (rule, 2), {"best": lots, "seldom": pairs}.get(rule, things)
+            closed = self.closed(kind, good)
             self.assertIs(lead_shows(kind, kind, 3, 0, closed), True)
-            self.assertTrue({(state, state) for state in good[rule]} <= {pair for pair, _ in closed})
-            for state in bad[rule]:
+            self.assertTrue({(state, state) for state in good} <= {pair for pair, _ in closed})
+            for state in others:
+                for pair in ((state, closed[0][0][1]), (closed[0][0][0], state), (state, state)):
+                    self.assertIs(lead_shows(kind, kind, 3, 0, closed + [(pair, -5)]), False)
+            for state in bad:
                 with self.subTest(rule, state=state):
-                    for pair in ((state, closed[0][0][1]), (closed[0][0][0], state), (state, state)):
-                        self.assertIs(lead_shows(kind, kind, 3, 0, closed + [(pair, -5)]), False)
+                    # All that the state leads to stands there, too: just its form is wrong.
+                    self.assertIs(lead_shows(kind, kind, 3, 0, self.closed(kind, good + (state,))), False)
+
+    def test_forms_of_states_with_true_and_false(self):
+        for rule, state, wrong in (("eldest", (0, 1), ((False, 1), (0, True))), ("lately", (1,), ((True,),)), ("newest", (0,), ((False,),)),
+                                   ("seldom", ((0, 1),), (((False, 1),), ((0, True),))), ("best", (((0, 1), 0),), ((((False, 1), 0),), (((0, 1), False),))),
+                                   ("best", (((0, 1), 1), ((1, 2), 0)), ((((0, 1), True), ((1, 2), 0)),))):
+            closed = self.closed((rule, 2), (state,))
+            self.assertIs(lead_shows((rule, 2), (rule, 2), 3, 0, closed), True)
+            for other in wrong:
+                self.assertIn(other, [pair[0] for pair, _ in closed])
+                paper = [((other, other), number) if pair[0] == other else (pair, number) for pair, number in closed]
+                self.assertIs(lead_shows((rule, 2), (rule, 2), 3, 0, paper), False)
 
     def closed(self, kind, states):
         """A paper of a kind over itself with these states, each pair of one state twice, closed by asking which pair lacks."""
@@ -289,7 +301,7 @@ class Papers(unittest.TestCase):
             if state not in found:
                 found[state] = True
                 level.extend([self.behind(kind, state, thing) for thing in range(3)])
-        return [((state, state), 0) for state in sorted(found)]
+        return [((state, state), 0) for state in found]
 
     def behind(self, kind, state, thing):
         """The state behind a request, of any state of the form of one."""

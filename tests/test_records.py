@@ -69,7 +69,7 @@ WRONG = (
     (TOP, (("names", "", "abc"),)), (TOP, (("names", "", ("b", "a")),)), (TOP, (("names", "", ("a", "a")),)), (TOP, (("names", "", ("A",)),)),
     (TOP, (("names", "", ("a/b",)),)), (TOP, (("names", "", ("",)),)), (TOP, (("names", "", ("abcdefg",)),)), (TOP, (("names", "", (1,)),)),
     (TOP, (("names", "", ("a", None)),)), (TOP, (("names", "", ()), ("names", "", ()))), (TOP, (("names", "", (), ()),)), (TOP, (no(""),)),
-    (TOP, (t("", "x"),)), (TOP, (stop(""),)), (NAMES, (("names", "", ()),)), (NAMES, (t("lib", "x"),)), (NAMES, (no("lib"),)),
+    (TOP, (t("", "x"),)), (TOP, (("text", "", ("a",)),)), (TOP, (("missing", "", ()),)), (TOP, (stop(""),)), (NAMES, (("names", "", ()),)), (NAMES, (t("lib", "x"),)), (NAMES, (no("lib"),)),
     (USE, ()), (USE, (t("a", "use b"),)), (USE, (t("a", "use b"), t("c", "C"))), (USE, (t("a", "use b"), t("b", "B"), t("b", "B"))),
     (USE, (t("a", "use b\nuse c"), t("c", "C"), t("b", "B"))), (USE, (t("a", " use b"), t("b", "B"))), (USE, (t("a", "use b\nuse c"), no("b"), t("c", ""))),
     (USE, (t("a", "use b"), t("b", "use c"), t("c", "C"))), (USE, (t("a", "use b\nuse c"), t("b", "B"))),

@@ -115,6 +115,25 @@ class Questions(unittest.TestCase):
         self.assertEqual(first_apart(shop_of(("spoil", "out", ""), BUILD), "records", "whole"), (1, 0, 1))
         self.assertIsNone(first_apart(shop_of(("lose", "out"), BUILD), "records", "whole"))
 
+    def test_benches_that_stand_alike_but_for_their_records(self):
+        # Behind (0, 1) and (1, 0) the same lies, made of the same tree or of another one: just the second runs again.
+        shop = shop_of(("write", "a", "x\ny"), BUILD, books=SORT, tree=TREE[:1])
+        self.ask(shop, records=(None, True, (1, 0, 1)), whole=(None, True, (1, 0, 1)), moments=(None, True, (1, 0, 1)))
+        self.assertEqual(first_apart(shop, "records", "moments"), (0, 1, 0, 1))
+
+    def test_benches_that_stand_alike_but_for_their_rules(self):
+        # Both rules look at the same, and make the same.
+        books = SORT + (Book((("out", "join", ("a",)),)),)
+        shop = shop_of(("swap", 1), BUILD, books=books, tree=(("a", "x"),))
+        self.ask(shop, records=(None, True, None), whole=(None, True, (1, 0, 1)), moments=(None, True, None), always=(None, True, (1, 1)))
+        self.assertEqual(first_apart(shop, "records", "whole"), (1, 0, 1))
+
+    def test_benches_that_stand_alike_but_for_their_moments(self):
+        shop = shop_of(("touch", "a"), BUILD, ("touch", "b"), books=SORT, tree=TREE)
+        self.ask(shop, moments=(None, True, (1, 0, 1)))
+        shop = shop_of(BUILD, ("spoil", "mid", "x\ny"), ("lose", "out"))
+        self.ask(shop, moments=(None, True, (0, 1, 0)), records=(None, True, (1, 0)))
+
     def test_texts_that_grow_from_build_to_build(self):
         # Each book makes one text of the other one, with more signs, until there would be more than 400.
         one = Book((("x", "sort", "s"), ("y", "join", ("x", "x", "x", "t"))))
