@@ -98,9 +98,6 @@ class StoreBuild(Making):
         self.found_near = []
         self.found_far = []
 
-    def empty(self, made):
-        """Nothing lies at a path that is being made."""
-
     def fill(self, made):
         """Take the text of an entry that sees the same now, or run the rule."""
         for is_near, entry in self.store.entries_of(self.table[made]):

@@ -23,8 +23,7 @@ class Making:
         raise NotImplementedError()
 
     def empty(self, made):
-        """Leave nothing at a made path that falls to a ring."""
-        raise NotImplementedError()
+        """Leave nothing at a made path that falls to a ring: if nothing lay at first, there is nothing to do."""
 
     def make_aim(self, aim):
         """Make an aim; if a ring is met, all that are being made fall to it."""

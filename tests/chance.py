@@ -4,7 +4,8 @@ from buildroom.books import Book
 
 MADE = ("a", "b", "c", "d/e")
 FILES = ("s", "t", "u/v")
-TEXTS = ("", "x", "y", "yes", "y\nx", "b\n\na", "use a", "use s", "use b\nuse a", "use t\nx", "xy" * 9, "z" * 200, "use u/v")
+TEXTS = ("", "x", "y", "yes", "y\nx", "b\n\na", "use a", "use s", "use b\nuse a", "use t\nx", "xy" * 9, "z" * 200,
+         "use u/v")
 
 
 def some_rule(dice, made, kinds=("join", "size", "sort", "pick", "names", "use", "choose", "need")):

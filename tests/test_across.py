@@ -79,8 +79,10 @@ class Across(unittest.TestCase):
             rings = [path for path, outcome in clean(book, tree) if outcome == ("ring",)]
             for way in ("always", "records", "whole"):
                 ran = Builder((book,), tree, made, way).do(BUILD)
-                self.assertEqual(sorted([path for path in ran if path not in rings]), [path for path in made if path not in rings])
-            self.assertEqual(sorted(Store(0, "eldest", ()).build(book, tree, made)[1]), [path for path in made if path not in rings])
+                self.assertEqual(sorted([path for path in ran if path not in rings]),
+                                 [path for path in made if path not in rings])
+            self.assertEqual(sorted(Store(0, "eldest", ()).build(book, tree, made)[1]),
+                             [path for path in made if path not in rings])
 
     def test_rows_of_shops_are_done_as_by_builders(self):
         dice = random.Random(41)
@@ -90,7 +92,8 @@ class Across(unittest.TestCase):
             builder, row = Builder(books, tree, aims, "records"), (4, 2, 0, 3, 1, 1)
             ran = [builder.do(steps[number]) for number in row]
             shop = Shop(books, tree, aims, steps)
-            self.assertEqual([follow(shop, "records", row), left_by(shop, "records", row)], [ran, (builder.tree, builder.lying)])
+            self.assertEqual([follow(shop, "records", row), left_by(shop, "records", row)],
+                             [ran, (builder.tree, builder.lying)])
 
 
 if __name__ == "__main__":

@@ -52,11 +52,14 @@ class Builds(unittest.TestCase):
         self.assertEqual(self.ran(BUILD, BUILD), self.ways())
 
     def test_a_file_is_written(self):
-        self.assertEqual(self.ran(("write", "b", "?"), BUILD), self.ways(moments=("out",), records=("out",), whole=("out",)))
-        self.assertEqual(self.ran(("write", "a", "z"), BUILD), self.ways(moments=("mid", "out"), records=("mid", "out"), whole=("mid", "out")))
+        self.assertEqual(self.ran(("write", "b", "?"), BUILD),
+                         self.ways(moments=("out",), records=("out",), whole=("out",)))
+        self.assertEqual(self.ran(("write", "a", "z"), BUILD),
+                         self.ways(moments=("mid", "out"), records=("mid", "out"), whole=("mid", "out")))
 
     def test_a_file_is_written_so_that_the_same_is_made_of_it(self):
-        self.assertEqual(self.ran(("write", "a", "x\ny"), BUILD), self.ways(moments=("mid", "out"), records=("mid",), whole=("mid",)))
+        self.assertEqual(self.ran(("write", "a", "x\ny"), BUILD),
+                         self.ways(moments=("mid", "out"), records=("mid",), whole=("mid",)))
 
     def test_a_file_is_written_again_or_touched(self):
         for step in (("write", "b", "!"), ("touch", "b")):
@@ -67,7 +70,8 @@ class Builds(unittest.TestCase):
     def test_a_file_is_put_back(self):
         self.assertEqual(self.ran(("back", "b", "?"), BUILD), self.ways(records=("out",), whole=("out",)))
         self.assertEqual(self.ran(("write", "b", "?"), ("back", "b", "!"), BUILD), self.ways())
-        self.assertEqual(self.ran(("back", "b", "?"), ("touch", "b"), BUILD), self.ways(moments=("out",), records=("out",), whole=("out",)))
+        self.assertEqual(self.ran(("back", "b", "?"), ("touch", "b"), BUILD),
+                         self.ways(moments=("out",), records=("out",), whole=("out",)))
         self.built["moments"].do(("back", "b", "?"))
         self.assertIs(self.built["moments"].right(), False)
 
@@ -78,30 +82,37 @@ class Builds(unittest.TestCase):
             self.assertEqual(builder.lying, (("mid", "x\ny"),))
             self.assertIs(builder.right(), True)
         self.assertEqual(self.ran(BUILD), self.ways(moments=("out",)))
-        self.assertEqual(self.ran(("write", "b", "!"), BUILD), self.ways(moments=("out",), records=("out",), whole=("out",)))
+        self.assertEqual(self.ran(("write", "b", "!"), BUILD),
+                         self.ways(moments=("out",), records=("out",), whole=("out",)))
 
     def test_a_file_that_no_rule_looks_at(self):
         self.assertEqual(self.ran(("write", "c", "?"), BUILD), self.ways())
 
     def test_what_lies_is_spoiled(self):
         self.assertEqual(self.ran(("spoil", "out", "?"), BUILD), self.ways(whole=("out",)))
-        self.assertEqual(self.ran(("spoil", "mid", "?"), BUILD), self.ways(moments=("out",), records=("out",), whole=("mid",)))
+        self.assertEqual(self.ran(("spoil", "mid", "?"), BUILD),
+                         self.ways(moments=("out",), records=("out",), whole=("mid",)))
         self.assertEqual(self.ran(("spoil", "mid", "x\ny"), BUILD), self.ways(moments=("out",)))
-        self.assertEqual(self.ran(("spoil", "mid", "?"), ("spoil", "out", "?"), BUILD), self.ways(records=("out",), whole=("out", "mid")))
+        self.assertEqual(self.ran(("spoil", "mid", "?"), ("spoil", "out", "?"), BUILD),
+                         self.ways(records=("out",), whole=("out", "mid")))
 
     def test_what_lies_is_lost(self):
-        self.assertEqual(self.ran(("lose", "out"), BUILD), self.ways(moments=("out",), records=("out",), whole=("out",)))
-        self.assertEqual(self.ran(("lose", "mid"), BUILD), self.ways(moments=("mid", "out"), records=("mid",), whole=("mid",)))
+        self.assertEqual(self.ran(("lose", "out"), BUILD), self.ways(moments=("out",), records=("out",),
+                                                                     whole=("out",)))
+        self.assertEqual(self.ran(("lose", "mid"), BUILD), self.ways(moments=("mid", "out"), records=("mid",),
+                                                                     whole=("mid",)))
 
     def test_a_run_is_forgotten(self):
         self.assertEqual(self.ran(("forget", "out"), BUILD), self.ways(records=("out",), whole=("out",)))
         self.assertEqual(self.ran(("forget", "mid"), BUILD), self.ways(records=("mid",), whole=("mid",)))
-        self.assertEqual(self.ran(("forget", "mid"), ("forget", "out"), BUILD), self.ways(records=("out", "mid"), whole=("out", "mid")))
+        self.assertEqual(self.ran(("forget", "mid"), ("forget", "out"), BUILD),
+                         self.ways(records=("out", "mid"), whole=("out", "mid")))
 
     def test_steps_that_are_no_builds_return_nothing_and_run_nothing(self):
         for way, builder in self.built.items():
             lying = dict(builder.lying)
-            for step in (("write", "a", "q"), ("back", "a", "r"), ("touch", "a"), ("drop", "a"), ("forget", "mid"), ("swap", 0)):
+            for step in (("write", "a", "q"), ("back", "a", "r"), ("touch", "a"), ("drop", "a"), ("forget", "mid"),
+                         ("swap", 0)):
                 self.assertEqual(builder.do(step), ())
                 self.assertEqual(dict(builder.lying), lying)
             self.assertEqual(told(builder, ("spoil", "mid", "q"), ("lose", "out")), [(), ()])
@@ -113,7 +124,8 @@ class Builds(unittest.TestCase):
             again = () if way in ("records", "whole") else ("m", "o")
             self.assertEqual(told(builder, BUILD, BUILD), [("m", "o"), again])
             builder.do(("write", "a", "y"))
-            self.assertEqual(told(builder, BUILD, BUILD), [("m",) if way in ("records", "whole") else ("m", "o"), again])
+            self.assertEqual(told(builder, BUILD, BUILD), [("m",) if way in ("records", "whole") else ("m", "o"),
+                                                           again])
             self.assertEqual([builder.lying, builder.right()], [(), True])
             builder.do(("write", "a", "x"))
             self.assertEqual([builder.do(BUILD), builder.lying], [("m", "o"), (("m", "x"), ("o", "!x"))])
@@ -149,7 +161,8 @@ class Builds(unittest.TestCase):
     def test_told_paths_are_brought_up_by_moments_though_no_look_comes_to_them(self):
         books = (Book((("m", "choose", "s", "b", "c"), ("b", "size", "s"), ("c", "size", "no"))),)
         runs = {way: builder.do(BUILD) for way, builder in builders(books, (("s", "yes"),), ("m",))}
-        self.assertEqual(runs, {"always": ("m", "b"), "moments": ("b", "c", "m"), "records": ("m", "b"), "whole": ("m", "b")})
+        self.assertEqual(runs, {"always": ("m", "b"), "moments": ("b", "c", "m"), "records": ("m", "b"),
+                                "whole": ("m", "b")})
 
     def test_told_paths_that_are_not_there_make_old_by_moments(self):
         books = (Book((("m", "choose", "s", "t", "no"),)),)
@@ -168,7 +181,8 @@ class Builds(unittest.TestCase):
         books = (Book((("a", "join", ("c", "b", "c")), ("b", "size", "c"), ("c", "join", ()))),)
         for aims, always in ((("a", "b", "c"), ("a", "c", "b")), (("b", "c"), ("b", "c")), (("c",), ("c",)), ((), ())):
             for way, builder in builders(books, (), aims):
-                self.assertEqual(builder.do(BUILD), always if way != "moments" else tuple([path for path in "cba" if path in always]))
+                self.assertEqual(builder.do(BUILD),
+                                 always if way != "moments" else tuple([path for path in "cba" if path in always]))
 
 
 class Moments(unittest.TestCase):
@@ -183,7 +197,8 @@ class Moments(unittest.TestCase):
         self.assertEqual([builder.do(BUILD), builder.lying], [("out",), (("mid", "m"), ("out", "m!"))])
 
     def test_each_step_that_takes_a_moment(self):
-        for step, ran in ((("write", "b", "!"), ("out",)), (("touch", "b"), ("out",)), (("back", "b", "?"), ()), (("touch", "a"), ("mid", "out")),
+        for step, ran in ((("write", "b", "!"), ("out",)), (("touch", "b"), ("out",)), (("back", "b", "?"), ()),
+                          (("touch", "a"), ("mid", "out")),
                           (("spoil", "mid", "x"), ("out",)), (("forget", "mid"), ()), (("swap", 0), ())):
             builder = Builder(CHAIN, TREE, ("out",), "moments")
             told(builder, BUILD, step)
@@ -191,7 +206,8 @@ class Moments(unittest.TestCase):
 
     def test_what_was_put_back_is_not_later_than_anything(self):
         builder = Builder(CHAIN, TREE, ("out",), "moments")
-        told(builder, ("touch", "a"), ("back", "a", "1"), ("spoil", "mid", "m"), ("back", "a", "2"), ("back", "b", "3"), BUILD)
+        told(builder, ("touch", "a"), ("back", "a", "1"), ("spoil", "mid", "m"), ("back", "a", "2"), ("back", "b", "3"),
+             BUILD)
         self.assertEqual(builder.lying, (("mid", "m"), ("out", "m3")))
 
     def test_a_run_that_leaves_the_same_text_takes_a_new_moment(self):
@@ -204,14 +220,16 @@ class Moments(unittest.TestCase):
 
     def test_a_half_takes_a_new_moment(self):
         builder = Builder(CHAIN, TREE, ("out",), "moments")
-        self.assertEqual(told(builder, BUILD, ("touch", "a"), ("cut", 0), BUILD, BUILD), [("mid", "out"), (), ("mid",), ("out",), ()])
+        self.assertEqual(told(builder, BUILD, ("touch", "a"), ("cut", 0), BUILD, BUILD),
+                         [("mid", "out"), (), ("mid",), ("out",), ()])
         self.assertEqual(builder.lying, (("mid", "x"), ("out", "x!")))
 
 
 class Rings(unittest.TestCase):
     """p and q are a ring, w waits for it, and x makes a text of s alone."""
 
-    books = (Book((("p", "join", ("s", "q")), ("q", "join", ("x", "p")), ("w", "join", ("x", "q")), ("x", "sort", "s"))),)
+    books = (Book((("p", "join", ("s", "q")), ("q", "join", ("x", "p")), ("w", "join", ("x", "q")),
+                   ("x", "sort", "s"))),)
 
     def test_a_ring_leaves_nothing_of_those_that_are_brought_up(self):
         for way, builder in builders(self.books, (("s", "1"),), ("w",)):
@@ -254,7 +272,8 @@ class Rings(unittest.TestCase):
     def test_what_is_spoiled_behind_a_ring_is_not_that_of_a_run(self):
         books = (Book((("a", "choose", "s", "a", "t"),)),)
         builder = Builder(books, (("s", "no"), ("t", "x")), ("a",), "records")
-        self.assertEqual(told(builder, BUILD, ("write", "s", "yes"), BUILD, ("write", "s", "no"), ("spoil", "a", "x")), [("a",), (), ("a",), (), ()])
+        self.assertEqual(told(builder, BUILD, ("write", "s", "yes"), BUILD, ("write", "s", "no"), ("spoil", "a", "x")),
+                         [("a",), (), ("a",), (), ()])
         self.assertEqual([builder.right(), builder.do(BUILD)], [True, ("a",)])
 
     def test_a_ring_that_is_come_to_only_on_the_way(self):
@@ -263,14 +282,16 @@ class Rings(unittest.TestCase):
             self.assertEqual(builder.do(BUILD), () if way == "moments" else ("a", "b"))
             self.assertIs(builder.right(), way != "moments")
             self.assertEqual(builder.lying, () if way == "moments" else (("a", "x"), ("b", "xx")))
-            self.assertEqual(told(builder, ("write", "s", "yes"), BUILD)[1], {"always": ("a", "b"), "moments": ()}.get(way, ("a",)))
+            self.assertEqual(told(builder, ("write", "s", "yes"), BUILD)[1],
+                             {"always": ("a", "b"), "moments": ()}.get(way, ("a",)))
             self.assertEqual([builder.lying, builder.right()], [(), True])
 
     def test_a_ring_among_looks_of_a_record(self):
         books = (Book((("a", "join", ("b",)), ("b", "sort", "s"))), Book((("a", "join", ("b",)), ("b", "size", "a"))))
         for way, builder in builders(books, (("s", "x"),), ("a",)):
             told(builder, BUILD, ("swap", 1))
-            self.assertEqual(builder.do(BUILD), {"always": ("a", "b"), "moments": (), "records": (), "whole": ("b",)}[way])
+            self.assertEqual(builder.do(BUILD), {"always": ("a", "b"), "moments": (), "records": (),
+                                                 "whole": ("b",)}[way])
             self.assertEqual(builder.lying, (("a", "x"), ("b", "x")) if way == "records" else ())
 
     def test_a_ring_of_records_of_another_book(self):
@@ -304,8 +325,10 @@ class Cuts(unittest.TestCase):
     def test_each_run(self):
         for way, builder in builders(CHAIN, (("a", "54321"), ("b", "!")), ("out",)):
             first, last = ("mid", "out") if way == "moments" else ("out", "mid")
-            for number, ran, lying in ((0, (first,) if way == "moments" else (first, last), (("mid", "54"),) if way == "moments" else (("mid", "54321"), ("out", "543"))),
-                                       (1, (first, last), (("mid", "54321"), ("out", "543")) if way == "moments" else (("mid", "54"),)),
+            for number, ran, lying in ((0, (first,) if way == "moments" else (first, last),
+                                        (("mid", "54"),) if way == "moments" else (("mid", "54321"), ("out", "543"))),
+                                       (1, (first, last), (("mid", "54321"),
+                                                           ("out", "543")) if way == "moments" else (("mid", "54"),)),
                                        (2, (first, last), (("mid", "54321"), ("out", "54321!"))),
                                        (20, (first, last), (("mid", "54321"), ("out", "54321!")))):
                 with self.subTest(way, number=number):
@@ -314,7 +337,8 @@ class Cuts(unittest.TestCase):
 
     def test_halves_are_rounded_down(self):
         books = (Book((("m", "join", ("s", "s", "t")),)),)
-        for text, more, half in (("", "", ""), ("", "x", ""), ("a", "", "a"), ("a", "x", "a"), ("ab", "", "ab"), ("ab", "x", "ab"), (LONG, "", LONG)):
+        for text, more, half in (("", "", ""), ("", "x", ""), ("a", "", "a"), ("a", "x", "a"), ("ab", "", "ab"),
+                                 ("ab", "x", "ab"), (LONG, "", LONG)):
             builder = Builder(books, (("s", text), ("t", more)), ("m",), "whole")
             self.assertEqual([builder.do(("cut", 0)), builder.lying], [("m",), (("m", half),)])
 
@@ -343,7 +367,8 @@ class Cuts(unittest.TestCase):
 
     def test_nothing_that_waits_goes_on(self):
         books = (Book((("a", "join", ("b", "c")), ("b", "join", ("c",)), ("c", "sort", "s"), ("d", "size", "s"))),)
-        for number, ran, lying in ((0, ("a", "b", "c"), (("a", "wxwx"), ("b", "wxwx"), ("c", "wxwx"))), (1, ("a", "b", "c"), (("b", "wx"), ("c", "wxwx"))),
+        for number, ran, lying in ((0, ("a", "b", "c"), (("a", "wxwx"), ("b", "wxwx"), ("c", "wxwx"))),
+                                   (1, ("a", "b", "c"), (("b", "wx"), ("c", "wxwx"))),
                                    (2, ("a", "b", "c"), (("c", "wx"),)), (3, ("a", "b", "c", "d"), None)):
             builder = Builder(books, (("s", "wxwx"),), ("a", "d"), "always")
             self.assertEqual(builder.do(("cut", number)), ran)
@@ -374,7 +399,8 @@ class Steps(unittest.TestCase):
         for way, builder in builders(books, full, ("m",)):
             builder.do(BUILD)
             before = [builder.tree, builder.lying, builder.number]
-            for step in (("write", "g", "x"), ("back", "g", "x"), ("write", "f00/a", "x"), ("back", "f01/a/b", ""), ("drop", "g"), ("touch", "g")):
+            for step in (("write", "g", "x"), ("back", "g", "x"), ("write", "f00/a", "x"), ("back", "f01/a/b", ""),
+                         ("drop", "g"), ("touch", "g")):
                 self.assertEqual(builder.do(step), ())
                 self.assertEqual([builder.tree, builder.lying, builder.number], before)
             self.assertEqual(told(builder, ("lose", "m"), ("lose", "m"), ("forget", "m"), ("forget", "m")), [()] * 4)
@@ -409,24 +435,33 @@ class Steps(unittest.TestCase):
     def test_steps(self):
         books = (Book((("m", "size", "a"), ("n/o", "size", "a"))), Book((("m", "size", "a"), ("p", "size", "a"))))
         right = [BUILD] + [("cut", number) for number in range(21)] + [("swap", 0), ("swap", 1)]
-        right += [(word, path, text) for word in ("write", "back") for path in ("a", "m/x", "n", "q/r/s") for text in ("", LONG, "~\n ")]
+        right += [(word, path, text) for word in ("write", "back") for path in ("a", "m/x", "n",
+            "q/r/s") for text in ("", LONG, "~\n ")]
         right += [(word, path) for word in ("drop", "touch") for path in ("a", "n/x", "n")]
-        right += [(word, path) for word in ("lose", "forget") for path in ("m", "n/o", "p")] + [("spoil", path, "x") for path in ("m", "n/o", "p")]
+        right += [(word, path) for word in ("lose", "forget") for path in ("m", "n/o", "p")] + [("spoil", path,
+            "x") for path in ("m", "n/o", "p")]
         for step in right:
             with self.subTest(step):
                 self.assertEqual(fault(Builder(books, (), ("m",), "whole").do, step)[0], "returned")
 
     def test_no_steps(self):
         books = (Book((("m", "size", "a"), ("n/o", "size", "a"))), Book((("m", "size", "a"), ("p", "size", "a"))))
-        wrong = [(), ("build", 0), ["build"], "build", ("Build",), (("build",),), ("cut",), ("cut", -1), ("cut", 21), ("cut", True), ("cut", "1"),
-                 ("cut", None), ("cut", 0, 0), ("swap",), ("swap", 2), ("swap", -1), ("swap", False), ("swap", True), ("swap", (0,)), ("swap", 0, 0)]
-        wrong += [(word, path, "x") for word in ("write", "back") for path in ("m", "n/o", "p", "", "A", None, ("a",), 1)]
-        wrong += [(word, "a", text) for word in ("write", "back") for text in (LONG + "z", "\t", None, 1, ("x",), ["x"])]
+        wrong = [(), ("build", 0), ["build"], "build", ("Build",), (("build",),), ("cut",), ("cut", -1), ("cut", 21),
+                 ("cut", True), ("cut", "1"),
+                 ("cut", None), ("cut", 0, 0), ("swap",), ("swap", 2), ("swap", -1), ("swap", False), ("swap", True),
+                 ("swap", (0,)), ("swap", 0, 0)]
+        wrong += [(word, path, "x") for word in ("write", "back") for path in ("m", "n/o", "p", "", "A", None, ("a",),
+            1)]
+        wrong += [(word, "a", text) for word in ("write", "back") for text in (LONG + "z", "\t", None, 1, ("x",),
+            ["x"])]
         wrong += [(word, path) for word in ("drop", "touch") for path in ("m", "n/o", "p", "", None, ["a"])]
         wrong += [(word, path) for word in ("lose", "forget") for path in ("a", "n", "m/x", "", None, {"m": "m"})]
-        wrong += [("spoil", path, "x") for path in ("a", "n", "", None)] + [("spoil", "m", text) for text in (LONG + "z", None, "\x7f")]
-        wrong += [("write", "a"), ("write", "a", "x", "y"), ("back", "a"), ("drop",), ("drop", "a", "x"), ("touch",), ("touch", "a", ""), ("spoil", "m"),
-                  ("spoil", "m", "x", "y"), ("lose",), ("lose", "m", ""), ("forget",), ("forget", "m", ""), (None,), (["build"],), ({},), ("undo",)]
+        wrong += [("spoil", path, "x") for path in ("a", "n", "", None)] + [("spoil", "m",
+            text) for text in (LONG + "z", None, "\x7f")]
+        wrong += [("write", "a"), ("write", "a", "x", "y"), ("back", "a"), ("drop",), ("drop", "a", "x"), ("touch",),
+                  ("touch", "a", ""), ("spoil", "m"),
+                  ("spoil", "m", "x", "y"), ("lose",), ("lose", "m", ""), ("forget",), ("forget", "m", ""), (None,),
+                  (["build"],), ({},), ("undo",)]
         for way, builder in builders(books, (("a", "x"),), ("m",)):
             builder.do(BUILD)
             before = [builder.tree, builder.lying, builder.number]
@@ -452,7 +487,8 @@ class Swaps(unittest.TestCase):
             self.assertIs(builder.right(), False)
             self.assertEqual(builder.do(BUILD), {"always": ("out", "mid"), "whole": ("mid", "out")}.get(way, ()))
             self.assertIs(builder.right(), way in ("always", "whole"))
-            self.assertEqual(told(builder, ("swap", 0), BUILD)[1], {"always": ("out", "mid"), "whole": ("mid", "out")}.get(way, ()))
+            self.assertEqual(told(builder, ("swap", 0), BUILD)[1],
+                             {"always": ("out", "mid"), "whole": ("mid", "out")}.get(way, ()))
             self.assertIs(builder.right(), True)
 
     def test_a_path_that_one_book_alone_makes(self):
@@ -549,7 +585,8 @@ class AgainstTheModel(unittest.TestCase):
                     row.append(some_step(dice, MADE, many))
                     with self.subTest(way, books=[book.rules for book in books], tree=tree, aims=aims, row=row):
                         self.assertEqual(builder.do(row[-1]), model.do(row[-1]))
-                        self.assertEqual([builder.number, builder.tree, builder.lying], [model.number, model.tree, model.lying])
+                        self.assertEqual([builder.number, builder.tree, builder.lying],
+                                         [model.number, model.tree, model.lying])
                         self.assertIs(builder.right(), model.right())
                     seen[way, builder.right()] = True
         self.assertEqual(len(seen), 8)
@@ -568,7 +605,8 @@ class Wrong(unittest.TestCase):
             self.assertEqual(fault(Builder, (book,) * many, (), (), "always")[0], "returned")
 
     def test_aims(self):
-        wrong = ("", "mid", ["mid"], ("a",), ("out", "mid"), ("mid", "mid"), ("mid", "out", "out"), ("mid", None), (["mid"],), (("mid",),), {"mid": 1},
+        wrong = ("", "mid", ["mid"], ("a",), ("out", "mid"), ("mid", "mid"), ("mid", "out", "out"), ("mid", None),
+                 (["mid"],), (("mid",),), {"mid": 1},
                  ("mid", "no"), (0,))
         for value in STRANGE + wrong:
             with self.subTest(value=value):
@@ -577,7 +615,8 @@ class Wrong(unittest.TestCase):
             self.assertEqual(fault(Builder, CHAIN, TREE, value, "always")[0], "returned")
 
     def test_ways(self):
-        for value in STRANGE + ("", "Always", "moment", "record", ("always",), ["whole"], {"whole": 1}, "always ", b"always"):
+        for value in STRANGE + ("", "Always", "moment", "record", ("always",), ["whole"], {"whole": 1}, "always ",
+                                b"always"):
             with self.subTest(value=value):
                 self.assertEqual(fault(Builder, CHAIN, TREE, ("out",), value), (BadWay, {}))
 

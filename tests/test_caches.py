@@ -30,20 +30,27 @@ def stores(room, *entries):
 class Entries(unittest.TestCase):
     def test_true_entries(self):
         a, b = ("text", "a", "yx\n"), ("text", "b", "")
-        for value in ((("m", "size", "a"), (a,), "3"), (("m", "join", ("a", "b", "a")), (a, b, a), "yx\nyx\n"), (("m", "join", ()), (), ""),
-                      (("m", "names", "lib"), (("names", "lib", ("a", "b")),), "a\nb"), (("m", "choose", "b", "c", "a"), (b, a), "yx\n"),
-                      (("m", "need", "a", "x"), (a,), "yx\n"), (("m", "pick", "a", "z"), (a,), ""), (("m", "use", "a"), (("text", "a", "use b"), b), ""),
+        for value in ((("m", "size", "a"), (a,), "3"), (("m", "join", ("a", "b", "a")), (a, b, a), "yx\nyx\n"),
+                      (("m", "join", ()), (), ""),
+                      (("m", "names", "lib"), (("names", "lib", ("a", "b")),), "a\nb"),
+                      (("m", "choose", "b", "c", "a"), (b, a), "yx\n"),
+                      (("m", "need", "a", "x"), (a,), "yx\n"), (("m", "pick", "a", "z"), (a,), ""),
+                      (("m", "use", "a"), (("text", "a", "use b"), b), ""),
                       (("m", "sort", "a"), (("text", "a", "z" * 400),), "z" * 400)):
             with self.subTest(value):
                 self.assertIs(true_entry(value), True)
                 self.assertEqual(Store(3, "lately", (value,)).far, (value,))
-                for wrong in (value[:2], value + ("",), list(value), (value[0], value[1], value[2] + "x"), (value[0], value[1], None),
-                              (value[0], value[1], ("text", value[2])), (value[0], value[1] + value[1] + (a,), value[2]), (value[0][:2], value[1], value[2]),
-                              (value[0], list(value[1]), value[2]), (value[0], None, value[2]), (value[2], value[1], value[0])):
+                for wrong in (value[:2], value + ("",), list(value), (value[0], value[1], value[2] + "x"),
+                              (value[0], value[1], None),
+                              (value[0], value[1], ("text", value[2])),
+                              (value[0], value[1] + value[1] + (a,), value[2]), (value[0][:2], value[1], value[2]),
+                              (value[0], list(value[1]), value[2]), (value[0], None, value[2]),
+                              (value[2], value[1], value[0])):
                     self.assertIs(true_entry(wrong), False)
 
     def test_records_without_a_text(self):
-        for rule, record in ((("m", "size", "a"), (("missing", "a"),)), (("m", "size", "a"), (("stopped", "a"),)), (("m", "need", "a", "x"), (("text", "a", ""),)),
+        for rule, record in ((("m", "size", "a"), (("missing", "a"),)), (("m", "size", "a"), (("stopped", "a"),)),
+                             (("m", "need", "a", "x"), (("text", "a", ""),)),
                              (("m", "join", ("a", "a")), (("text", "a", "z" * 201),) * 2)):
             for text in ("", "a", None, ("lacks",), ("long",), ("missing", "a"), "z" * 402):
                 self.assertIs(true_entry((rule, record, text)), False)
@@ -100,7 +107,8 @@ class Stores(unittest.TestCase):
 
     def test_no_room(self):
         for kind, store in stores(0):
-            for text, told in (("a", (("a",), ("m",), (), ())), ("a", (("a",), (), (), ("m",))), ("b", (("b",), ("m",), (), ()))):
+            for text, told in (("a", (("a",), ("m",), (), ())), ("a", (("a",), (), (), ("m",))),
+                               ("b", (("b",), ("m",), (), ()))):
                 self.assertEqual(store.build(COPY, tree(text), ("m",)), told)
                 self.assertEqual(store.near, ())
             self.assertEqual([store.forget(), len(store)], [0, 2])
@@ -140,7 +148,8 @@ class Stores(unittest.TestCase):
             self.assertEqual(other.build(COPY, tree("a"), ("m",))[2], ("m",))
             other.build(COPY, tree("c"), ("m",))
             self.assertEqual(other.near, ((entry("b") if kind == "eldest" else entry("a")), entry("c")))
-            self.assertEqual([store.near, len(store), other.forget(), store.near], [(entry("a"), entry("b")), 3, 2, (entry("a"), entry("b"))])
+            self.assertEqual([store.near, len(store), other.forget(), store.near],
+                             [(entry("a"), entry("b")), 3, 2, (entry("a"), entry("b"))])
             self.assertFalse(store == store.copy())
 
 
@@ -148,8 +157,10 @@ class Builds(unittest.TestCase):
     def test_in_the_order_in_which_they_end(self):
         book = Book((("a", "join", ("c", "b", "c")), ("b", "size", "c"), ("c", "sort", "s"), ("d", "join", ("b",))))
         for kind, store in stores(9):
-            self.assertEqual(store.build(book, tree("xy"), ("a", "b", "d")), (("xy2xy", "2", "2"), ("c", "b", "a", "d"), (), ()))
-            self.assertEqual(store.build(book, tree("xy"), ("a", "b", "d")), (("xy2xy", "2", "2"), (), ("c", "b", "a", "d"), ()))
+            self.assertEqual(store.build(book, tree("xy"), ("a", "b", "d")),
+                             (("xy2xy", "2", "2"), ("c", "b", "a", "d"), (), ()))
+            self.assertEqual(store.build(book, tree("xy"), ("a", "b", "d")),
+                             (("xy2xy", "2", "2"), (), ("c", "b", "a", "d"), ()))
             self.assertEqual(store.build(book, tree("zz"), ("a",)), (("zz2zz",), ("c", "b", "a"), (), ()))
             store.forget()
             self.assertEqual(store.build(book, tree("zz"), ("d",)), (("2",), (), (), ("c", "b", "d")))
@@ -177,7 +188,8 @@ class Builds(unittest.TestCase):
         book = Book((("a", "size", "b"), ("b", "need", "s", "x"), ("c", "size", "no"), ("l", "join", ("s", "s", "s"))))
         for kind, store in stores(9):
             for _ in range(2):
-                self.assertEqual(store.build(book, tree("z" * 200), ("a", "b", "c", "l")), ((None,) * 4, ("b", "a", "c", "l"), (), ()))
+                self.assertEqual(store.build(book, tree("z" * 200), ("a", "b", "c", "l")),
+                                 ((None,) * 4, ("b", "a", "c", "l"), (), ()))
                 self.assertEqual([store.near, store.far], [(), ()])
 
     def test_what_entries_look_at_is_made_until_one_does_not_see_the_same(self):
@@ -213,7 +225,8 @@ class Builds(unittest.TestCase):
             self.assertEqual(store.near, tuple([entry(text) for text in ("abc" if kind == "eldest" else "bca")]))
 
     def test_rings(self):
-        book = Book((("p", "join", ("s", "q")), ("q", "join", ("x", "p")), ("w", "join", ("x", "q")), ("x", "sort", "s"), ("y", "join", ("x",))))
+        book = Book((("p", "join", ("s", "q")), ("q", "join", ("x", "p")), ("w", "join", ("x", "q")),
+                     ("x", "sort", "s"), ("y", "join", ("x",))))
         for kind, store in stores(9):
             self.assertEqual(store.build(book, tree("1"), ("p", "w", "y")), ((None, None, "1"), ("x", "y"), (), ()))
             self.assertEqual(store.build(book, tree("1"), ("w", "y")), ((None, "1"), (), ("x", "y"), ()))
@@ -257,7 +270,8 @@ class Builds(unittest.TestCase):
                 with self.subTest(room=room, kind=kind, book=book.rules, files=files, aims=aims):
                     told = store.build(book, files, aims)
                     self.assertEqual(told, model.build(book, files, aims))
-                    self.assertEqual([store.near, store.far, len(store)], [tuple(model.near), tuple(model.far), len(model.far)])
+                    self.assertEqual([store.near, store.far, len(store)],
+                                     [tuple(model.near), tuple(model.far), len(model.far)])
                     near, far = near + len(told[2]), far + len(told[3])
         self.assertGreater(min(near, far), 100)
 
@@ -275,7 +289,8 @@ class Wrong(unittest.TestCase):
             self.assertEqual(fault(Store, value, "eldest", ())[0], "returned")
 
     def test_kinds(self):
-        for value in STRANGE + ("", (), "Eldest", "newest", "seldom", "best", ("eldest",), ["lately"], {"lately": 1}, ("lately", 1)):
+        for value in STRANGE + ("", (), "Eldest", "newest", "seldom", "best", ("eldest",), ["lately"], {"lately": 1},
+                                ("lately", 1)):
             with self.subTest(value=value):
                 self.assertEqual(fault(Store, 1, value, None), (BadKind, {}))
 
@@ -286,7 +301,8 @@ class Wrong(unittest.TestCase):
             index = 0 if isinstance(value, tuple) and len(value) < 41 else None
             with self.subTest(value=value):
                 self.assertEqual(fault(Store, 1, "eldest", value), (BadEntries, {"index": index}))
-        for thing in STRANGE + ((), "", entry("0"), entry("1"), list(entry("z")), entry("z")[:2], entry("z")[:2] + ("y",)):
+        for thing in STRANGE + ((), "", entry("0"), entry("1"), list(entry("z")), entry("z")[:2],
+                                entry("z")[:2] + ("y",)):
             self.assertEqual(fault(Store, 1, "lately", forty[:2] + (thing, None)), (BadEntries, {"index": 2}))
             self.assertEqual(fault(Store, 1, "lately", forty[:39] + (thing,)), (BadEntries, {"index": 39}))
 

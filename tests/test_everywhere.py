@@ -6,8 +6,10 @@ import unittest
 from buildroom.books import Book, depths, made_paths, right_order, right_ring, told_order, told_ring
 from buildroom.builders import Builder
 from buildroom.caches import Store, true_entry
-from buildroom.errors import (BadAims, BadBook, BadBooks, BadEntries, BadKind, BadLength, BadMade, BadNumber, BadPath, BadRecord,
-                              BadRequests, BadRow, BadRule, BadRules, BadShelf, BadShop, BadStep, BadSteps, BadThings, BadTree,
+from buildroom.errors import (BadAims, BadBook, BadBooks, BadEntries, BadKind, BadLength, BadMade, BadNumber, BadPath,
+                              BadRecord,
+                              BadRequests, BadRow, BadRule, BadRules, BadShelf, BadShop, BadStep, BadSteps, BadThings,
+                              BadTree,
                               BadWay, RoomError)
 from buildroom.leads import lead, lead_by_length, lead_count, lead_loop, lead_paper, lead_row, lead_shows
 from buildroom.paths import differing, names_in, put, taken, text_at
@@ -33,7 +35,8 @@ def steps(books, tree, aims, way, row):
     """All that a builder tells behind each step of a row."""
     builder, told = Builder(books, tree, aims, way), []
     for step in row:
-        told.append([builder.do(step), builder.number, builder.tree, builder.lying, builder.right(), builder.copy().lying])
+        told.append([builder.do(step), builder.number, builder.tree, builder.lying, builder.right(),
+                     builder.copy().lying])
     return told
 
 
@@ -46,17 +49,23 @@ def builds(room, kind, entries, book, trees, aims):
 
 
 CALLS = (
-    (clean, (BOOK, TREE)), (clean, (RING, TREE)), (run, (BOOK, TREE, "out")), (run, (RING, (), "p")), (reads_behind, (BOOK, TREE, "out")),
+    (clean, (BOOK, TREE)), (clean, (RING, TREE)), (run, (BOOK, TREE, "out")), (run, (RING, (), "p")),
+         (reads_behind, (BOOK, TREE, "out")),
     (right_record, (SIZE, RECORD)), (right_record, (SIZE, [["text", ["a"], {"x": "x"}]])), (told_by, (SIZE, RECORD)),
     (first_changed, (BOOK, OTHER, SIZE, RECORD)), (replays, (BOOK, TREE, SIZE, RECORD)), (blunted, (SIZE, RECORD)),
     (blunt_replays, (BOOK, OTHER, SIZE, RECORD)),
-    (steps, ((BOOK, BOOK), TREE, ("out",), "whole", (BUILD, ("write", "a", "y"), ("swap", 1), ("cut", 0), ("spoil", "mid", "z"), BUILD))),
-    (steps, ((BOOK,), TREE, ("mid", "out"), "moments", (BUILD, ("back", "a", "y"), ("lose", "mid"), ("forget", "out"), ("drop", "a"), BUILD))),
+    (steps, ((BOOK, BOOK), TREE, ("out",), "whole", (BUILD, ("write", "a", "y"), ("swap", 1), ("cut", 0),
+                                                     ("spoil", "mid", "z"), BUILD))),
+    (steps, ((BOOK,), TREE, ("mid", "out"), "moments", (BUILD, ("back", "a", "y"), ("lose", "mid"), ("forget", "out"),
+                                                        ("drop", "a"), BUILD))),
     (first_wrong, (SHOP, "moments")), (first_needless, (SHOP, "always")), (first_apart, (SHOP, "moments", "records")),
     (always_right, (SHOP, "whole")), (follow, (SHOP, "records", (0, 1, 0))), (left_by, (SHOP, "records", (0, 1, 0))),
-    (true_entry, (ENTRY,)), (true_entry, ([ENTRY, {"a": [ENTRY]}],)), (builds, (1, "lately", (ENTRY,), BOOK, (TREE, OTHER, TREE), ("mid", "out"))),
-    (shelf_course, (("best", 2), (0, 1, 2, 0))), (shelf_hits, (("seldom", 2), (0, 1, 0))), (shelf_lies, (("newest", 2), (0, 1, 0))),
-    (lead, (ONE, OTHER_SHELF, 2)), (lead_row, (ONE, OTHER_SHELF, 2)), (lead_loop, (ONE, ("best", 2), 3)), (lead_paper, (ONE, OTHER_SHELF, 2)),
+    (true_entry, (ENTRY,)), (true_entry, ([ENTRY, {"a": [ENTRY]}],)),
+         (builds, (1, "lately", (ENTRY,), BOOK, (TREE, OTHER, TREE), ("mid", "out"))),
+    (shelf_course, (("best", 2), (0, 1, 2, 0))), (shelf_hits, (("seldom", 2), (0, 1, 0))),
+         (shelf_lies, (("newest", 2), (0, 1, 0))),
+    (lead, (ONE, OTHER_SHELF, 2)), (lead_row, (ONE, OTHER_SHELF, 2)), (lead_loop, (ONE, ("best", 2), 3)),
+         (lead_paper, (ONE, OTHER_SHELF, 2)),
     (lead_shows, (ONE, OTHER_SHELF, 2, 0, PAPER)), (lead_shows, (ONE, OTHER_SHELF, 2, 0, [[PAPER], {0: PAPER}])),
     (lead_by_length, (ONE, ("best", 2), 3, 5)), (lead_count, (ONE, ("best", 2), 3, 5)),
     (text_at, (TREE, "a")), (names_in, (TREE, "")), (put, (TREE, "c", "w")), (taken, (TREE, "a")),
@@ -65,13 +74,20 @@ CALLS = (
     (right_order, (BOOK, [["mid"], {"out": 1}])), (right_order, (BOOK, ("mid", ["out"]))), (depths, (BOOK,)),
 )
 FAILS = (
-    (clean, ([BOOK], TREE)), (run, (BOOK, TREE, ["out"])), (reads_behind, (BOOK, [["a", "x"]], "out")), (told_by, (["mid", "sort", "a"], RECORD)),
-    (first_changed, (BOOK, TREE, SIZE, [["text", "a", "x"]])), (blunted, (SIZE, [RECORD])), (right_record, ([SIZE], RECORD)),
-    (steps, ([BOOK], TREE, ("out",), "whole", ())), (steps, ((BOOK,), TREE, ["out"], "whole", ())), (steps, ((BOOK,), TREE, ("out",), ["whole"], ())),
-    (steps, ((BOOK,), TREE, ("out",), "whole", (BUILD, ["build"]))), (Shop, ((BOOK,), TREE, ("out",), [BUILD])), (first_wrong, ([SHOP], "whole")),
-    (follow, (SHOP, "whole", [0, [1]])), (left_by, (SHOP, ["whole"], ())), (builds, (1, "lately", [ENTRY], BOOK, (TREE,), ("mid",))),
-    (builds, (1, ["lately"], (ENTRY,), BOOK, (TREE,), ("mid",))), (builds, (1, "lately", (ENTRY,), BOOK, ([TREE],), ("mid",))),
-    (shelf_course, (["best", 2], (0,))), (shelf_hits, (("best", 2), [0, [1]])), (lead, ([ONE], ONE, 2)), (lead_shows, (ONE, ONE, 2, [0], [])),
+    (clean, ([BOOK], TREE)), (run, (BOOK, TREE, ["out"])), (reads_behind, (BOOK, [["a", "x"]], "out")),
+         (told_by, (["mid", "sort", "a"], RECORD)),
+    (first_changed, (BOOK, TREE, SIZE, [["text", "a", "x"]])), (blunted, (SIZE, [RECORD])),
+         (right_record, ([SIZE], RECORD)),
+    (steps, ([BOOK], TREE, ("out",), "whole", ())), (steps, ((BOOK,), TREE, ["out"], "whole", ())),
+         (steps, ((BOOK,), TREE, ("out",), ["whole"], ())),
+    (steps, ((BOOK,), TREE, ("out",), "whole", (BUILD, ["build"]))), (Shop, ((BOOK,), TREE, ("out",), [BUILD])),
+         (first_wrong, ([SHOP], "whole")),
+    (follow, (SHOP, "whole", [0, [1]])), (left_by, (SHOP, ["whole"], ())),
+         (builds, (1, "lately", [ENTRY], BOOK, (TREE,), ("mid",))),
+    (builds, (1, ["lately"], (ENTRY,), BOOK, (TREE,), ("mid",))),
+         (builds, (1, "lately", (ENTRY,), BOOK, ([TREE],), ("mid",))),
+    (shelf_course, (["best", 2], (0,))), (shelf_hits, (("best", 2), [0, [1]])), (lead, ([ONE], ONE, 2)),
+         (lead_shows, (ONE, ONE, 2, [0], [])),
     (lead_by_length, (ONE, ONE, [1], 2)),
     (text_at, ([["a", "x"]], "a")), (names_in, (TREE, ["a"])), (put, (TREE, "c", {"w": ["w"]})), (taken, (TREE, ["a"])),
     (put, (TREE, "lib", "")), (taken, (TREE, "lib")), (differing, (TREE, [["a"]])), (Book, ([["m", "size", "a"]],)),
@@ -168,9 +184,12 @@ class Everywhere(unittest.TestCase):
         self.assertEqual(fault(right_ring, None, None), (BadBook, {}))
 
     def test_answers_of_the_other_modules_are_true_or_false_themselves(self):
-        for call, right, wrong in ((right_record, (SIZE, RECORD), (SIZE, None)), (replays, (BOOK, TREE, SIZE, RECORD), (BOOK, OTHER, SIZE, RECORD)),
-                                   (blunt_replays, (BOOK, TREE, SIZE, RECORD), (BOOK, OTHER, SIZE, RECORD)), (true_entry, (ENTRY,), (SIZE,)),
-                                   (always_right, (SHOP, "whole"), (SHOP, "moments")), (lead_shows, (ONE, ONE, 1, 0, lead_paper(ONE, ONE, 1)), (ONE, ONE, 1, 0, []))):
+        for call, right, wrong in ((right_record, (SIZE, RECORD), (SIZE, None)),
+                                   (replays, (BOOK, TREE, SIZE, RECORD), (BOOK, OTHER, SIZE, RECORD)),
+                                   (blunt_replays, (BOOK, TREE, SIZE, RECORD), (BOOK, OTHER, SIZE, RECORD)),
+                                   (true_entry, (ENTRY,), (SIZE,)),
+                                   (always_right, (SHOP, "whole"), (SHOP, "moments")),
+                                   (lead_shows, (ONE, ONE, 1, 0, lead_paper(ONE, ONE, 1)), (ONE, ONE, 1, 0, []))):
             self.assertIs(call(*right), True)
             self.assertIs(call(*wrong), False)
 
@@ -197,11 +216,16 @@ class Everywhere(unittest.TestCase):
         self.assertIs(true_entry(ENTRY[:2] + (deep,)), False)
         self.assertIs(lead_shows(ONE, ONE, 1, 0, deep), False)
         self.assertIs(lead_shows(ONE, ONE, 1, 0, [(((), deep), 0)]), False)
-        for call, arguments, error in ((run, (BOOK, TREE, deep), (BadMade, {})), (told_by, (SIZE, deep), (BadRecord, {})),
-                                       (Builder, ((BOOK,), TREE, deep, "whole"), (BadAims, {})), (Builder, ((BOOK,), TREE, (), deep), (BadWay, {})),
-                                       (Builder((BOOK,), TREE, (), "whole").do, (deep,), (BadStep, {})), (follow, (SHOP, "whole", deep), (BadRow, {})),
-                                       (Store, (1, deep, ()), (BadKind, {})), (Store, (1, "lately", deep), (BadEntries, {"index": 0})),
-                                       (shelf_hits, (deep, ()), (BadShelf, {})), (shelf_hits, (ONE, deep), (BadRequests, {"index": 0}))):
+        for call, arguments, error in ((run, (BOOK, TREE, deep), (BadMade, {})),
+                                       (told_by, (SIZE, deep), (BadRecord, {})),
+                                       (Builder, ((BOOK,), TREE, deep, "whole"), (BadAims, {})),
+                                       (Builder, ((BOOK,), TREE, (), deep), (BadWay, {})),
+                                       (Builder((BOOK,), TREE, (), "whole").do, (deep,), (BadStep, {})),
+                                       (follow, (SHOP, "whole", deep), (BadRow, {})),
+                                       (Store, (1, deep, ()), (BadKind, {})),
+                                       (Store, (1, "lately", deep), (BadEntries, {"index": 0})),
+                                       (shelf_hits, (deep, ()), (BadShelf, {})),
+                                       (shelf_hits, (ONE, deep), (BadRequests, {"index": 0}))):
             self.assertEqual(fault(call, *arguments), error)
         self.assertIs(fault(Store, deep, "lately", ())[0], BadNumber)
 

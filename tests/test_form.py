@@ -25,7 +25,8 @@ METHODS = set(
 LIBRARY = {
     "heapq": {"heappush", "heappop", "heapify", "heapreplace", "heappushpop"},
     "math": {"gcd", "lcm", "isqrt", "comb", "perm", "factorial"},
-    "itertools": {"product", "combinations", "permutations", "chain", "accumulate", "pairwise", "islice", "zip_longest"},
+    "itertools": {"product", "combinations", "permutations", "chain", "accumulate", "pairwise", "islice",
+                  "zip_longest"},
     "collections": {"defaultdict"},
 }
 BARRED_WORDS = re.compile(
@@ -137,7 +138,8 @@ class Form(unittest.TestCase):
                 self.assertRegex(told, r"^(property|staticmethod|classmethod|\w+\.setter)$", name)
 
     def test_properties_and_methods_are_no_attributes(self):
-        defined_there = {node.name for _, node in nodes(ast.FunctionDef) if node.args.args and node.args.args[0].arg == "self"}
+        defined_there = {node.name for _,
+                         node in nodes(ast.FunctionDef) if node.args.args and node.args.args[0].arg == "self"}
         assigned = {node.attr for _, node in nodes(ast.Attribute) if not isinstance(node.ctx, ast.Load)}
         self.assertEqual(defined_there & assigned, set())
 
@@ -145,9 +147,11 @@ class Form(unittest.TestCase):
         for name, tree in TREES.items():
             parents = {child: node for node in ast.walk(tree) for child in ast.iter_child_nodes(node)}
             for node in ast.walk(tree):
-                if isinstance(node, (ast.Set, ast.SetComp)) or isinstance(node, ast.Call) and getattr(node.func, "id", "") == "set":
+                if isinstance(node, (ast.Set, ast.SetComp)) or isinstance(node, ast.Call) and getattr(node.func, "id",
+                    "") == "set":
                     around = parents[node]
-                    self.assertIn(ast.unparse(around.func) if isinstance(around, ast.Call) else "", ("sorted", "len"), name)
+                    self.assertIn(ast.unparse(around.func) if isinstance(around, ast.Call) else "", ("sorted", "len"),
+                                  name)
 
     def test_barred_words(self):
         for name, tree in TREES.items():

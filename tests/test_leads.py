@@ -86,8 +86,10 @@ class Leads(unittest.TestCase):
                 with self.subTest(one=one, other=other, things=things):
                     for many in (0, 1, most - 1, most):
                         best = max([leads[row] for row in rows[many]])
-                        self.assertEqual(lead_by_length(one, other, things, many), (best, [row for row in rows[many] if leads[row] == best][0]))
-                        self.assertEqual(lead_count(one, other, things, many), len([row for row in rows[many] if leads[row] > 0]))
+                        self.assertEqual(lead_by_length(one, other, things, many),
+                                         (best, [row for row in rows[many] if leads[row] == best][0]))
+                        self.assertEqual(lead_count(one, other, things, many),
+                                         len([row for row in rows[many] if leads[row] > 0]))
                     self.hold(one, other, things, leads)
 
     def hold(self, one, other, things, leads):
@@ -116,8 +118,10 @@ class Leads(unittest.TestCase):
     def test_as_many_things_as_room(self):
         for one, other in PAIRS:
             things = min(one[1], other[1])
-            self.assertEqual([lead(one, other, things), lead_row(one, other, things), lead_loop(one, other, things)], [0, (), None])
-            self.assertEqual([lead_by_length(one, other, things, 40), lead_count(one, other, things, 40)], [(0, (0,) * 40), 0])
+            self.assertEqual([lead(one, other, things), lead_row(one, other, things), lead_loop(one, other, things)],
+                             [0, (), None])
+            self.assertEqual([lead_by_length(one, other, things, 40), lead_count(one, other, things, 40)],
+                             [(0, (0,) * 40), 0])
 
     def test_more_room_grows_for_ever(self):
         for rule in RULES:
@@ -128,7 +132,8 @@ class Leads(unittest.TestCase):
     def test_more_room_never_has_fewer_hits_by_lately_and_best(self):
         for rule in ("lately", "best"):
             for one, other in ((1, 2), (2, 3), (1, 3)):
-                self.assertEqual([lead((rule, other), (rule, one), 4), lead_row((rule, other), (rule, one), 4)], [0, ()])
+                self.assertEqual([lead((rule, other), (rule, one), 4), lead_row((rule, other), (rule, one), 4)],
+                                 [0, ()])
 
     def test_nothing_leads_over_best(self):
         for rule in RULES:
@@ -173,7 +178,8 @@ class Leads(unittest.TestCase):
             self.assertTrue(all(-1 <= two - one <= 1 for one, two in zip(leads, leads[1:])))
             if best is not None:
                 self.assertLessEqual(max(leads), best)
-                self.assertEqual(lead_by_length(one, other, 3, len(lead_row(one, other, 3))), (best, lead_row(one, other, 3)))
+                self.assertEqual(lead_by_length(one, other, 3, len(lead_row(one, other, 3))),
+                                 (best, lead_row(one, other, 3)))
 
 
 class Papers(unittest.TestCase):
@@ -204,11 +210,13 @@ class Papers(unittest.TestCase):
         self.assertGreater(told, 300)
 
     def test_states_of_four_things(self):
-        for one, other in ((("best", 3), ("best", 3)), (("best", 2), ("seldom", 2)), (("best", 3), ("lately", 3)), (("best", 2), ("newest", 2))):
+        for one, other in ((("best", 3), ("best", 3)), (("best", 2), ("seldom", 2)), (("best", 3), ("lately", 3)),
+                           (("best", 2), ("newest", 2))):
             self.assertEqual([pair for pair, _ in lead_paper(one, other, 4)], sorted(pairs_model(one, other, 4)))
 
     def test_states_by_hand(self):
-        self.assertEqual(lead_paper(("newest", 1), ("seldom", 1), 1), [(((), ()), 0), (((0,), ((0, 1),)), 0), (((0,), ((0, 2),)), 0)])
+        self.assertEqual(lead_paper(("newest", 1), ("seldom", 1), 1),
+                         [(((), ()), 0), (((0,), ((0, 1),)), 0), (((0,), ((0, 2),)), 0)])
         self.assertEqual(lead_paper(("best", 2), ("eldest", 1), 3)[:3], [
             (((((), 0),), ()), 0), (((((0,), 0),), (0,)), 0), (((((0, 1), 0),), (0,)), 0)])
         self.assertIn((((((0, 1), 1), ((0, 2), 0)), (0,)), -1), lead_paper(("best", 2), ("eldest", 1), 3))
@@ -241,13 +249,16 @@ class Papers(unittest.TestCase):
         one = other = ("lately", 1)
         paper = lead_paper(one, other, 1)
         self.assertEqual(paper, [(((), ()), 0), (((0,), (0,)), 0)])
-        for first, second, bound, shows in ((0, 0, 0, True), (0, 1, 1, True), (1, 1, 1, True), (1, 0, 1, False), (0, 1, 0, False), (-1, 0, 0, False),
-                                            (-1, -1, 0, False), (0, -1, 0, False), (40, 40, 40, True), (40, 41, 40, False), (3, 5, 9, True)):
+        for first, second, bound, shows in ((0, 0, 0, True), (0, 1, 1, True), (1, 1, 1, True), (1, 0, 1, False),
+                                            (0, 1, 0, False), (-1, 0, 0, False),
+                                            (-1, -1, 0, False), (0, -1, 0, False), (40, 40, 40, True),
+                                            (40, 41, 40, False), (3, 5, 9, True)):
             self.assertIs(lead_shows(one, other, 1, bound, [(paper[0][0], first), (paper[1][0], second)]), shows)
         # Pairs that cannot be may have numbers down to - 10 ** 6, if what they lead to has as much.
         for kind in (("eldest", 2), ("seldom", 2)):
             start = lead_paper(kind, kind, 1)
-            more = [(((((1, 1),), ()) if kind[0] == "seldom" else ((1,), ())), number) for number in (-10 ** 6, -10 ** 6 - 1)]
+            more = [(((((1, 1),), ()) if kind[0] == "seldom" else ((1,), ())), number) for number in (-10 ** 6,
+                -10 ** 6 - 1)]
             self.assertEqual([lead_shows(kind, kind, 1, 0, start + [pair]) for pair in more], [False, False])
 
     def test_pairs_that_cannot_be(self):
@@ -265,8 +276,10 @@ class Papers(unittest.TestCase):
         pairs = ((), ((0, 2),), ((2, 1), (0, 2))), (((0, None),), (0,), ((0,),), ([0, 1],), ((0, 1, 1),), [(0, 1)]), (
             ((0, 0),), ((0, 3),), ((0, 1), (0, 2)), ((0, 1), (1, 1), (2, 1)), ((3, 1),), ((-1, 1),))
         lots = ((((), 0),), (((0,), 0),), (((), 0), ((0,), 1), ((0, 1), 1), ((2,), 0)), (((0, 1), 0), ((0, 2), 0))), (
-            (), ((0, 0),), (([0], 0),), (((0,),),), ([(0,), 0],), [((0,), 0)], (((0,), 0, 0),), (((0,), None),), ((None, 0),)), (
-            (((0,), 1),), (((0,), 2), ((1,), 0)), (((0,), -1), ((1,), 0)), (((0,), 0), ((0,), 0)), (((1,), 0), ((0,), 0)), (((1, 0), 0),),
+            (), ((0, 0),), (([0], 0),), (((0,),),), ([(0,), 0],), [((0,), 0)], (((0,), 0, 0),), (((0,), None),),
+                ((None, 0),)), (
+            (((0,), 1),), (((0,), 2), ((1,), 0)), (((0,), -1), ((1,), 0)), (((0,), 0), ((0,), 0)),
+                                (((1,), 0), ((0,), 0)), (((1, 0), 0),),
             (((0, 0), 0),), (((0, 1, 2), 0),), (((3,), 0),), (((-1,), 0),), (((0,), 0), ((1, 2), 1), ((1,), 0)))
         for rule in RULES:
             kind, (good, others, bad) = (rule, 2), {"best": lots, "seldom": pairs}.get(rule, things)
@@ -282,8 +295,10 @@ class Papers(unittest.TestCase):
                     self.assertIs(lead_shows(kind, kind, 3, 0, self.closed(kind, good + (state,))), False)
 
     def test_forms_of_states_with_true_and_false(self):
-        for rule, state, wrong in (("eldest", (0, 1), ((False, 1), (0, True))), ("lately", (1,), ((True,),)), ("newest", (0,), ((False,),)),
-                                   ("seldom", ((0, 1),), (((False, 1),), ((0, True),))), ("best", (((0, 1), 0),), ((((False, 1), 0),), (((0, 1), False),))),
+        for rule, state, wrong in (("eldest", (0, 1), ((False, 1), (0, True))), ("lately", (1,), ((True,),)),
+                                   ("newest", (0,), ((False,),)),
+                                   ("seldom", ((0, 1),), (((False, 1),), ((0, True),))),
+                                   ("best", (((0, 1), 0),), ((((False, 1), 0),), (((0, 1), False),))),
                                    ("best", (((0, 1), 1), ((1, 2), 0)), ((((0, 1), True), ((1, 2), 0)),))):
             closed = self.closed((rule, 2), (state,))
             self.assertIs(lead_shows((rule, 2), (rule, 2), 3, 0, closed), True)
@@ -323,7 +338,8 @@ class Papers(unittest.TestCase):
             return tuple([other for other in state if other != thing]) + (thing,) if rule == "lately" else state
         out = []
         if len(things) == room:
-            least = [pair for pair in state if pair[1] == min([many for _, many in state])][0] if rule == "seldom" else None
+            least = [pair for pair in state if pair[1] == min([many for _,
+                                                               many in state])][0] if rule == "seldom" else None
             out = [{"newest": state[-1], "seldom": least}.get(rule, state[0])]
         return tuple([other for other in state if other not in out]) + (((thing, 1),) if rule == "seldom" else (thing,))
 
@@ -331,21 +347,25 @@ class Papers(unittest.TestCase):
         one, other = ("eldest", 1), ("lately", 1)
         paper = lead_paper(one, other, 2)
         self.assertIs(lead_shows(one, other, 2, 0, paper), True)
-        for value in STRANGE + ("", (), paper[0], dict(paper), {0: paper}, [paper], (paper,), paper + [None], paper + [()]):
+        for value in STRANGE + ("", (), paper[0], dict(paper), {0: paper}, [paper], (paper,), paper + [None],
+                                paper + [()]):
             with self.subTest(value=value):
                 self.assertIs(lead_shows(one, other, 2, 0, value), False)
                 self.assertIs(lead_shows(one, other, 2, 0, paper + [value]), False)
                 self.assertIs(lead_shows(one, other, 2, 0, paper[1:] + [(value, 0)]), False)
-                self.assertIs(lead_shows(one, other, 2, 0, paper[1:] + [((value, ()), 0)]), False if value != () else True)
+                self.assertIs(lead_shows(one, other, 2, 0, paper[1:] + [((value, ()), 0)]),
+                              False if value != () else True)
                 if not isinstance(value, int) or isinstance(value, bool) or value not in (0,):
                     self.assertIs(lead_shows(one, other, 2, 0, paper[1:] + [(((), ()), value)]), False)
-        for thing in ([((), ()), 0], (((), ()), 0, 0), (((), ()),), ([(), ()], 0), (((), (), ()), 0), (((),), 0), (((), ()), False), (((), ()), "0")):
+        for thing in ([((), ()), 0], (((), ()), 0, 0), (((), ()),), ([(), ()], 0), (((), (), ()), 0), (((),), 0),
+                      (((), ()), False), (((), ()), "0")):
             self.assertIs(lead_shows(one, other, 2, 0, paper[1:] + [thing]), False)
 
     def test_the_pairs_of_the_other_way_round(self):
         paper = lead_paper(("eldest", 2), ("seldom", 1), 2)
         self.assertIs(lead_shows(("eldest", 2), ("seldom", 1), 2, 0, paper), True)
-        self.assertIs(lead_shows(("seldom", 1), ("eldest", 2), 2, 0, [((two, one), number) for (one, two), number in paper]), False)
+        self.assertIs(lead_shows(("seldom", 1), ("eldest", 2), 2, 0,
+                                 [((two, one), number) for (one, two), number in paper]), False)
         self.assertIs(lead_shows(("eldest", 2), ("eldest", 1), 2, 0, paper), False)
 
 
@@ -363,7 +383,8 @@ class Wrong(unittest.TestCase):
         self.assertEqual(lead_count(("best", 3), ("seldom", 3), 4, 9), 0)
 
     def test_not_too_many_states(self):
-        for one, other in ((("seldom", 3), ("newest", 3)), (("seldom", 3), ("seldom", 2)), (("seldom", 3), ("eldest", 3))):
+        for one, other in ((("seldom", 3), ("newest", 3)), (("seldom", 3), ("seldom", 2)),
+                           (("seldom", 3), ("eldest", 3))):
             for call in self.calls:
                 self.assertEqual(fault(call, one, other, 4)[0], "returned")
 
@@ -374,7 +395,8 @@ class Wrong(unittest.TestCase):
             self.assertEqual(fault(call, good, None, None), (BadShelf, {}))
             self.assertEqual(fault(call, good, good, 0), (BadThings, {}))
             self.assertEqual(fault(call, ("seldom", 3), ("best", 3), 5), (BadThings, {}))
-        for call in (lead_by_length, lead_count, lambda one, other, things, bound: lead_shows(one, other, things, bound, None)):
+        for call in (lead_by_length, lead_count, lambda one, other, things,
+                     bound: lead_shows(one, other, things, bound, None)):
             self.assertEqual(fault(call, None, good, None, None), (BadShelf, {}))
             self.assertEqual(fault(call, good, None, None, None), (BadShelf, {}))
             self.assertEqual(fault(call, good, good, None, None), (BadThings, {}))
@@ -389,13 +411,15 @@ class Wrong(unittest.TestCase):
                     self.assertEqual(fault(call, good, value, 2), (BadShelf, {}))
                     if value != 1 or isinstance(value, bool):
                         self.assertEqual(fault(call, good, good, value), (BadThings, {}))
-                for call in (lead_by_length, lead_count, lambda one, other, things, bound: lead_shows(one, other, things, bound, None)):
+                for call in (lead_by_length, lead_count, lambda one, other, things,
+                             bound: lead_shows(one, other, things, bound, None)):
                     self.assertEqual(fault(call, value, good, 2, 0), (BadShelf, {}))
                     self.assertEqual(fault(call, good, value, 2, 0), (BadShelf, {}))
                     if value not in (0, 1, 5) or isinstance(value, bool):
                         self.assertEqual(fault(call, good, good, value, 0), (BadThings, {}))
                         self.assertEqual(fault(call, good, good, 2, value), (BadLength, {}))
-        for call in (lead_by_length, lead_count, lambda one, other, things, bound: lead_shows(one, other, things, bound, None)):
+        for call in (lead_by_length, lead_count, lambda one, other, things,
+                     bound: lead_shows(one, other, things, bound, None)):
             for length in (0, 1, 40):
                 self.assertEqual(fault(call, good, good, 1, length)[0], "returned")
 
@@ -408,8 +432,9 @@ class Wrong(unittest.TestCase):
             for kind in KINDS[:12]:
                 lots = state_model(kind, row)
                 course = shelf_course(kind, row)
-                lies = {thing for thing in row} and {thing[0] if kind[0] == "seldom" else thing for thing in lots}
-                self.assertEqual(len([1 for hit, _ in course if not hit]) - len([1 for _, out in course if out is not None]), len(lies))
+                lies = {thing[0] if kind[0] == "seldom" else thing for thing in lots}
+                self.assertEqual(len([1 for hit, _ in course if not hit]) - len([1 for _,
+                    out in course if out is not None]), len(lies))
 
 
 if __name__ == "__main__":

@@ -33,57 +33,83 @@ TOP, NAMES, USE, CHOOSE = ("m", "names", ""), ("m", "names", "lib"), ("m", "use"
 # Records with the outcomes that they tell.
 RIGHT = (
     (JOIN, (t("a", "x"), t("b", "y\n"), t("a", "x")), ("text", "xy\nx")),
-    (JOIN, (no("a"),), no("a")), (JOIN, (t("a", ""), stop("b")), stop("b")), (JOIN, (t("a", ""), t("b", ""), no("a")), no("a")),
+    (JOIN, (no("a"),), no("a")), (JOIN, (t("a", ""), stop("b")), stop("b")),
+         (JOIN, (t("a", ""), t("b", ""), no("a")), no("a")),
     (JOIN, (t("a", "x"), t("b", "y"), t("a", "z")), ("text", "xyz")),
-    (JOIN, (t("a", ""), t("b", LONG), t("a", "")), ("text", LONG)), (JOIN, (t("a", ""), t("b", LONG), t("a", "x")), ("long",)),
+    (JOIN, (t("a", ""), t("b", LONG), t("a", "")), ("text", LONG)),
+         (JOIN, (t("a", ""), t("b", LONG), t("a", "x")), ("long",)),
     (NONE, (), ("text", "")),
-    (SIZE, (t("a", LONG),), ("text", "400")), (SIZE, (t("a", ""),), ("text", "0")), (SIZE, (no("a"),), no("a")), (SIZE, (stop("a"),), stop("a")),
+    (SIZE, (t("a", LONG),), ("text", "400")), (SIZE, (t("a", ""),), ("text", "0")), (SIZE, (no("a"),), no("a")),
+         (SIZE, (stop("a"),), stop("a")),
     (SORT, (t("a", "b\na\n"),), ("text", "\na\nb")), (SORT, (stop("a"),), stop("a")),
     (PICK, (t("a", "x\ny\nax"),), ("text", "x\nax")), (PICK, (t("a", "y"),), ("text", "")), (PICK, (no("a"),), no("a")),
     (NEED, (t("a", "ax"),), ("text", "ax")), (NEED, (t("a", "y"),), ("lacks",)), (NEED, (stop("a"),), stop("a")),
     (TOP, (("names", "", ()),), ("text", "")), (TOP, (("names", "", ("a", "b0", "c")),), ("text", "a\nb0\nc")),
-    (NAMES, (("names", "lib", tuple([f"n{number:03}" for number in range(80)])),), ("text", "\n".join([f"n{number:03}" for number in range(80)]))),
+    (NAMES, (("names", "lib", tuple([f"n{number:03}" for number in range(80)])),),
+     ("text", "\n".join([f"n{number:03}" for number in range(80)]))),
     (NAMES, (("names", "lib", tuple([f"n{number:03}" for number in range(81)])),), ("long",)),
     (USE, (t("a", "x"),), ("text", "x")), (USE, (no("a"),), no("a")),
     (USE, (t("a", "use b\nx\nuse a/b\nuse b"), t("b", "B"), t("a/b", "y\nz"), t("b", "C")), ("text", "B\nx\ny\nz\nC")),
-    (USE, (t("a", "use b\nx\nuse m"), t("b", ""), stop("m")), stop("m")), (USE, (t("a", "use b\nuse c"), no("b")), no("b")),
-    (USE, (t("a", "use b\n" + "x" * 40), t("b", LONG)), ("long",)), (USE, (t("a", "use b"), t("b", LONG)), ("text", LONG)),
+    (USE, (t("a", "use b\nx\nuse m"), t("b", ""), stop("m")), stop("m")),
+         (USE, (t("a", "use b\nuse c"), no("b")), no("b")),
+    (USE, (t("a", "use b\n" + "x" * 40), t("b", LONG)), ("long",)),
+         (USE, (t("a", "use b"), t("b", LONG)), ("text", LONG)),
     (CHOOSE, (t("a", "yes"), t("b", "B")), ("text", "B")), (CHOOSE, (t("a", "no"), t("c", LONG)), ("text", LONG)),
-    (CHOOSE, (t("a", "yes"), no("b")), no("b")), (CHOOSE, (t("a", "yes\n"), stop("c")), stop("c")), (CHOOSE, (stop("a"),), stop("a")),
+    (CHOOSE, (t("a", "yes"), no("b")), no("b")), (CHOOSE, (t("a", "yes\n"), stop("c")), stop("c")),
+         (CHOOSE, (stop("a"),), stop("a")),
     (("m", "size", "m"), (t("m", "x"),), ("text", "1")),
 )
 # Values that are no record of the rule.
 WRONG = (
     (JOIN, ()), (JOIN, (t("a", "x"), t("b", "y"))), (JOIN, (t("a", "x"), t("b", "y"), t("a", "x"), t("a", "x"))),
-    (JOIN, (t("b", "x"), t("a", "y"), t("a", "x"))), (JOIN, (no("a"), t("b", "y"), t("a", "x"))), (JOIN, (t("a", "x"), stop("b"), no("a"))),
-    (JOIN, (t("a", "x"), t("b", "y"), t("b", "x"))), (JOIN, (no("b"),)), (JOIN, [t("a", "x"), t("b", "y"), t("a", "x")]),
+    (JOIN, (t("b", "x"), t("a", "y"), t("a", "x"))), (JOIN, (no("a"), t("b", "y"), t("a", "x"))),
+         (JOIN, (t("a", "x"), stop("b"), no("a"))),
+    (JOIN, (t("a", "x"), t("b", "y"), t("b", "x"))), (JOIN, (no("b"),)),
+         (JOIN, [t("a", "x"), t("b", "y"), t("a", "x")]),
     (NONE, (t("a", "x"),)), (NONE, (no("a"),)), (NONE, []), (NONE, None), (NONE, ""), (NONE, {}), (NONE, ((),)),
-    (SIZE, ()), (SIZE, (t("b", "x"),)), (SIZE, (t("a", "x"), t("a", "x"))), (SIZE, (no("a"), no("a"))), (SIZE, (("names", "a", ()),)),
-    (SIZE, (t("a", LONG + "z"),)), (SIZE, (t("a", "\t"),)), (SIZE, (t("a", "\x7f"),)), (SIZE, (t("a", "\xe9"),)), (SIZE, (t("a", None),)),
-    (SIZE, (t("a", ("x",)),)), (SIZE, (t("a", 1),)), (SIZE, (("text", "a"),)), (SIZE, (("text", "a", "x", "y"),)), (SIZE, (("text",),)),
-    (SIZE, (("missing", "a", "x"),)), (SIZE, (("missing",),)), (SIZE, (("stopped", "a", None),)), (SIZE, (("lacks",),)), (SIZE, (("ring",),)),
-    (SIZE, (("Text", "a", "x"),)), (SIZE, (("size", "a", 1),)), (SIZE, ((),)), (SIZE, ("text",)), (SIZE, (["text", "a", "x"],)),
-    (SIZE, t("a", "x")), (SIZE, ({"text": "a"},)), (SIZE, (None,)), (SIZE, ((["text"], "a", "x"),)), (SIZE, (("text", ["a"], "x"),)),
+    (SIZE, ()), (SIZE, (t("b", "x"),)), (SIZE, (t("a", "x"), t("a", "x"))), (SIZE, (no("a"), no("a"))),
+         (SIZE, (("names", "a", ()),)),
+    (SIZE, (t("a", LONG + "z"),)), (SIZE, (t("a", "\t"),)), (SIZE, (t("a", "\x7f"),)), (SIZE, (t("a", "\xe9"),)),
+         (SIZE, (t("a", None),)),
+    (SIZE, (t("a", ("x",)),)), (SIZE, (t("a", 1),)), (SIZE, (("text", "a"),)), (SIZE, (("text", "a", "x", "y"),)),
+         (SIZE, (("text",),)),
+    (SIZE, (("missing", "a", "x"),)), (SIZE, (("missing",),)), (SIZE, (("stopped", "a", None),)), (SIZE, (("lacks",),)),
+         (SIZE, (("ring",),)),
+    (SIZE, (("Text", "a", "x"),)), (SIZE, (("size", "a", 1),)), (SIZE, ((),)), (SIZE, ("text",)),
+         (SIZE, (["text", "a", "x"],)),
+    (SIZE, t("a", "x")), (SIZE, ({"text": "a"},)), (SIZE, (None,)), (SIZE, ((["text"], "a", "x"),)),
+         (SIZE, (("text", ["a"], "x"),)),
     (SIZE, (("long", "a"),)), (SIZE, (("", "a"),)), (SIZE, ((None, "a"),)), (SIZE, (("names", "a", ("x",)),)),
-    (TOP, ()), (TOP, (("names", "lib", ()),)), (TOP, (("names", ""),)), (TOP, (("names", "", ["a"]),)), (TOP, (("names", "", None),)),
-    (TOP, (("names", "", "abc"),)), (TOP, (("names", "", ("b", "a")),)), (TOP, (("names", "", ("a", "a")),)), (TOP, (("names", "", ("A",)),)),
-    (TOP, (("names", "", ("a/b",)),)), (TOP, (("names", "", ("",)),)), (TOP, (("names", "", ("abcdefg",)),)), (TOP, (("names", "", (1,)),)),
-    (TOP, (("names", "", ("a", None)),)), (TOP, (("names", "", ()), ("names", "", ()))), (TOP, (("names", "", (), ()),)), (TOP, (no(""),)),
-    (TOP, (t("", "x"),)), (TOP, (("text", "", ("a",)),)), (TOP, (("missing", "", ()),)), (TOP, (stop(""),)), (NAMES, (("names", "", ()),)), (NAMES, (t("lib", "x"),)), (NAMES, (no("lib"),)),
-    (USE, ()), (USE, (t("a", "use b"),)), (USE, (t("a", "use b"), t("c", "C"))), (USE, (t("a", "use b"), t("b", "B"), t("b", "B"))),
-    (USE, (t("a", "use b\nuse c"), t("c", "C"), t("b", "B"))), (USE, (t("a", " use b"), t("b", "B"))), (USE, (t("a", "use b\nuse c"), no("b"), t("c", ""))),
+    (TOP, ()), (TOP, (("names", "lib", ()),)), (TOP, (("names", ""),)), (TOP, (("names", "", ["a"]),)),
+         (TOP, (("names", "", None),)),
+    (TOP, (("names", "", "abc"),)), (TOP, (("names", "", ("b", "a")),)), (TOP, (("names", "", ("a", "a")),)),
+         (TOP, (("names", "", ("A",)),)),
+    (TOP, (("names", "", ("a/b",)),)), (TOP, (("names", "", ("",)),)), (TOP, (("names", "", ("abcdefg",)),)),
+         (TOP, (("names", "", (1,)),)),
+    (TOP, (("names", "", ("a", None)),)), (TOP, (("names", "", ()), ("names", "", ()))),
+         (TOP, (("names", "", (), ()),)), (TOP, (no(""),)),
+    (TOP, (t("", "x"),)), (TOP, (("text", "", ("a",)),)), (TOP, (("missing", "", ()),)), (TOP, (stop(""),)),
+         (NAMES, (("names", "", ()),)), (NAMES, (t("lib", "x"),)), (NAMES, (no("lib"),)),
+    (USE, ()), (USE, (t("a", "use b"),)), (USE, (t("a", "use b"), t("c", "C"))),
+         (USE, (t("a", "use b"), t("b", "B"), t("b", "B"))),
+    (USE, (t("a", "use b\nuse c"), t("c", "C"), t("b", "B"))), (USE, (t("a", " use b"), t("b", "B"))),
+         (USE, (t("a", "use b\nuse c"), no("b"), t("c", ""))),
     (USE, (t("a", "use b"), t("b", "use c"), t("c", "C"))), (USE, (t("a", "use b\nuse c"), t("b", "B"))),
-    (CHOOSE, ()), (CHOOSE, (t("a", "yes"),)), (CHOOSE, (t("a", "yes"), t("c", "C"))), (CHOOSE, (t("a", "no"), t("b", "B"))),
+    (CHOOSE, ()), (CHOOSE, (t("a", "yes"),)), (CHOOSE, (t("a", "yes"), t("c", "C"))),
+         (CHOOSE, (t("a", "no"), t("b", "B"))),
     (CHOOSE, (t("a", "yes"), t("b", "B"), t("c", "C"))), (CHOOSE, (no("a"), t("c", "C"))), (CHOOSE, (t("b", "B"),)),
 )
 # Records, and what of them the rules can tell apart.
 BLUNT = (
     (SIZE, (t("a", "ab\n"),), (("size", "a", 3),)), (SIZE, (t("a", ""),), (("size", "a", 0),)),
-    (SORT, (t("a", "b\n\na\nb"),), (("lines", "a", ("", "a", "b", "b")),)), (SORT, (t("a", ""),), (("lines", "a", ("",)),)),
-    (PICK, (t("a", "x2\ny\nx1\nx2"),), (("picked", "a", ("x2", "x1", "x2")),)), (PICK, (t("a", "y"),), (("picked", "a", ()),)),
+    (SORT, (t("a", "b\n\na\nb"),), (("lines", "a", ("", "a", "b", "b")),)),
+         (SORT, (t("a", ""),), (("lines", "a", ("",)),)),
+    (PICK, (t("a", "x2\ny\nx1\nx2"),), (("picked", "a", ("x2", "x1", "x2")),)),
+         (PICK, (t("a", "y"),), (("picked", "a", ()),)),
     (NEED, (t("a", "y\nx"),), (("has", "a", "y\nx"),)), (NEED, (t("a", "y"),), (("has", "a", None),)),
     (CHOOSE, (t("a", "yes"), t("b", "yes")), (("yes", "a", True), t("b", "yes"))),
-    (CHOOSE, (t("a", "yes\n"), t("c", "")), (("yes", "a", False), t("c", ""))), (CHOOSE, (t("a", ""), no("c")), (("yes", "a", False), no("c"))),
+    (CHOOSE, (t("a", "yes\n"), t("c", "")), (("yes", "a", False), t("c", ""))),
+         (CHOOSE, (t("a", ""), no("c")), (("yes", "a", False), no("c"))),
     (CHOOSE, (no("a"),), (no("a"),)), (CHOOSE, (t("a", "yes"), stop("b")), (("yes", "a", True), stop("b"))),
 )
 
@@ -107,7 +133,8 @@ class Records(unittest.TestCase):
 
     def test_strange_things_within_records(self):
         for value in STRANGE + ("",):
-            for record in ((value,), (("text", value, "x"),), ((value, "a", "x"),), ((value, "a"),), (("missing", value),), (("stopped", value),)):
+            for record in ((value,), (("text", value, "x"),), ((value, "a", "x"),), ((value, "a"),),
+                           (("missing", value),), (("stopped", value),)):
                 self.assertIs(right_record(SIZE, record), False)
             if value not in ("", "A", "not a path"):
                 self.assertIs(right_record(SIZE, (t("a", value),)), False)
@@ -116,9 +143,12 @@ class Records(unittest.TestCase):
             self.assertIs(right_record(CHOOSE, (t("a", "yes"), value)), False)
 
     def test_records_of_other_rules(self):
-        for one, other, record in ((SIZE, TOP, (t("a", "x"),)), (TOP, SIZE, (("names", "", ()),)), (USE, SIZE, (t("a", "use b"), t("b", ""))),
-                                   (JOIN, CHOOSE, (t("a", ""), t("b", ""), t("a", ""))), (NAMES, TOP, (("names", "lib", ()),)),
-                                   (CHOOSE, JOIN, (t("a", "yes"), t("b", ""))), (SIZE, ("m", "size", "b"), (no("a"),)), (NONE, SIZE, ())):
+        for one, other, record in ((SIZE, TOP, (t("a", "x"),)), (TOP, SIZE, (("names", "", ()),)),
+                                   (USE, SIZE, (t("a", "use b"), t("b", ""))),
+                                   (JOIN, CHOOSE, (t("a", ""), t("b", ""), t("a", ""))),
+                                   (NAMES, TOP, (("names", "lib", ()),)),
+                                   (CHOOSE, JOIN, (t("a", "yes"), t("b", ""))), (SIZE, ("m", "size", "b"), (no("a"),)),
+                                   (NONE, SIZE, ())):
             self.assertIs(right_record(one, record), True)
             self.assertIs(right_record(other, record), False)
 
@@ -146,7 +176,8 @@ class Changed(unittest.TestCase):
         record = (t("a", "x"), t("b", "2"), stop("c"))
         right = (("a", "x"), ("t", "zz"))
         self.assertIsNone(first_changed(book, right, rule, record))
-        for tree, at in (((("a", "y"), ("t", "zz")), 0), ((("t", "zz"),), 0), ((("a", "x"), ("t", "zzz")), 1), ((("a", "x"),), 1),
+        for tree, at in (((("a", "y"), ("t", "zz")), 0), ((("t", "zz"),), 0), ((("a", "x"), ("t", "zzz")), 1),
+                         ((("a", "x"),), 1),
                          ((("a", "x"), ("t", "xz")), 2), ((("a", "y"), ("t", "x")), 0), ((("a", "x"), ("t", "x")), 1)):
             with self.subTest(tree):
                 self.assertEqual(first_changed(book, tree, rule, record), at)
@@ -216,7 +247,8 @@ class Changed(unittest.TestCase):
         """What is seen now at the place of a look."""
         texts = {made: told[0][1] for made, told in now.items() if told and told[0][0] == "text"}
         word, where = "names" if look[0] == "names" else "path", look[1]
-        return None if word == "path" and where in now and not now[where] else see_model(word, where, now, dict(tree), texts)
+        return None if word == "path" and where in now and not now[where] else see_model(word, where, now, dict(tree),
+            texts)
 
 
 class Blunted(unittest.TestCase):
@@ -224,7 +256,8 @@ class Blunted(unittest.TestCase):
         for rule, record, blunt in BLUNT:
             with self.subTest(rule=rule, record=record):
                 self.assertEqual(blunted(rule, record), blunt)
-                self.assertEqual([[type(thing) for thing in look] for look in blunted(rule, record)], [[type(thing) for thing in look] for look in blunt])
+                self.assertEqual([[type(thing) for thing in look] for look in blunted(rule, record)],
+                                 [[type(thing) for thing in look] for look in blunt])
 
     def test_looks_that_stay(self):
         for rule, record, _ in RIGHT:
@@ -247,9 +280,12 @@ class Blunted(unittest.TestCase):
 
     def test_blunt_replays_of_choose(self):
         for first, record, now, right in (
-                ("no", (t("a", "no"), t("c", "C")), (("a", "other"), ("c", "C")), True), ("no", (t("a", "no"), t("c", "C")), (("a", ""), ("c", "c")), False),
-                ("no", (t("a", "no"), t("c", "C")), (("a", "yes"), ("c", "C")), False), ("yes", (t("a", "yes"), t("b", "yes")), (("a", "yes"), ("b", "yes")), True),
-                ("yes", (t("a", "yes"), t("b", "no")), (("a", "yes"), ("b", "na")), False), ("yes", (t("a", "yes"), no("b")), (("a", "yes"), ("c", "C")), True),
+                ("no", (t("a", "no"), t("c", "C")), (("a", "other"), ("c", "C")), True),
+                                          ("no", (t("a", "no"), t("c", "C")), (("a", ""), ("c", "c")), False),
+                ("no", (t("a", "no"), t("c", "C")), (("a", "yes"), ("c", "C")), False),
+                                          ("yes", (t("a", "yes"), t("b", "yes")), (("a", "yes"), ("b", "yes")), True),
+                ("yes", (t("a", "yes"), t("b", "no")), (("a", "yes"), ("b", "na")), False),
+                                          ("yes", (t("a", "yes"), no("b")), (("a", "yes"), ("c", "C")), True),
                 ("yes", (t("a", "yes"), no("b")), (("a", "yes"), ("b", "")), False)):
             with self.subTest(first, record=record, now=now):
                 self.assertIs(blunt_replays(Book(()), now, CHOOSE, record), right)
@@ -288,7 +324,8 @@ class Wrong(unittest.TestCase):
         self.assertEqual(fault(right_record, None, None), (BadRule, {}))
 
     def test_any_value_of_a_rule(self):
-        for value in STRANGE + ((), "", ("m", "size"), ("m", "size", ""), ["m", "size", "a"], ("m", "size", "a", "a"), Book((SIZE,))):
+        for value in STRANGE + ((), "", ("m", "size"), ("m", "size", ""), ["m", "size", "a"], ("m", "size", "a", "a"),
+                                Book((SIZE,))):
             with self.subTest(value=value):
                 for call in (right_record, told_by, blunted):
                     self.assertEqual(fault(call, value, ()), (BadRule, {}))

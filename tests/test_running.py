@@ -36,12 +36,14 @@ class Kinds(unittest.TestCase):
             self.assertEqual(ran(("m", "size", "a"), ("a", words)), text(size, ("text", "a", words)))
 
     def test_sort(self):
-        for words, lines in (("", ""), ("b\na", "a\nb"), ("b\n\na", "\na\nb"), ("a\nA\n \n~\na", " \nA\na\na\n~"), ("\n", "\n"),
+        for words, lines in (("", ""), ("b\na", "a\nb"), ("b\n\na", "\na\nb"), ("a\nA\n \n~\na", " \nA\na\na\n~"),
+                             ("\n", "\n"),
                              ("10\n9\n1", "1\n10\n9"), ("a\n", "\na")):
             self.assertEqual(ran(("m", "sort", "a"), ("a", words)), text(lines, ("text", "a", words)))
 
     def test_pick(self):
-        for words, lines in (("", ""), ("xx\ny\naxxb", "xx\naxxb"), ("x\nx", ""), ("xxx\nxxx", "xxx\nxxx"), ("b xx\na xx", "b xx\na xx")):
+        for words, lines in (("", ""), ("xx\ny\naxxb", "xx\naxxb"), ("x\nx", ""), ("xxx\nxxx", "xxx\nxxx"),
+                             ("b xx\na xx", "b xx\na xx")):
             self.assertEqual(ran(("m", "pick", "a", "xx"), ("a", words)), text(lines, ("text", "a", words)))
         self.assertEqual(ran(("m", "pick", "a", " "), ("a", "\n \nx")), text(" ", ("text", "a", "\n \nx")))
 
@@ -58,7 +60,8 @@ class Kinds(unittest.TestCase):
         book = Book((("m", "names", ""), ("o", "names", "p"), ("p/q", "size", "a")))
         self.assertEqual(run(book, (("a", ""),), "m"), text("a", ("names", "", ("a",))))
         self.assertEqual(run(book, (("a", ""),), "o"), text("", ("names", "p", ())))
-        self.assertEqual(run(book, (("a", ""), ("m/n", ""), ("p/q", "")), "m"), text("a\nm\np", ("names", "", ("a", "m", "p"))))
+        self.assertEqual(run(book, (("a", ""), ("m/n", ""), ("p/q", "")), "m"),
+                         text("a\nm\np", ("names", "", ("a", "m", "p"))))
         self.assertEqual(run(book, (("p/q", ""),), "o"), text("q", ("names", "p", ("q",))))
 
     def test_use(self):
@@ -77,11 +80,13 @@ class Kinds(unittest.TestCase):
         self.assertEqual(ran(("m", "use", "a"), ("a", "use b"), ("b", "use c"), ("c", "x")), text("use c", *looks))
 
     def test_use_of_what_it_looks_at_first(self):
-        self.assertEqual(ran(("m", "use", "a"), ("a", "use a\nx")), text("use a\nx\nx", *[("text", "a", "use a\nx")] * 2))
+        self.assertEqual(ran(("m", "use", "a"), ("a", "use a\nx")),
+                         text("use a\nx\nx", *[("text", "a", "use a\nx")] * 2))
 
     def test_choose(self):
         files = (("b", "B"), ("c", "C"))
-        self.assertEqual(ran(("m", "choose", "a", "b", "c"), ("a", "yes"), *files), text("B", ("text", "a", "yes"), ("text", "b", "B")))
+        self.assertEqual(ran(("m", "choose", "a", "b", "c"), ("a", "yes"), *files),
+                         text("B", ("text", "a", "yes"), ("text", "b", "B")))
         for words in ("", "no", "yes\n", " yes", "Yes", "yesyes"):
             looks = (("text", "a", words), ("text", "c", "C"))
             self.assertEqual(ran(("m", "choose", "a", "b", "c"), ("a", words), *files), text("C", *looks))
@@ -96,7 +101,8 @@ class Kinds(unittest.TestCase):
     def test_a_missing_look_at_each_place(self):
         b, c = ("text", "b", "B"), ("text", "c", "C")
         files, none = (("b", "B"), ("c", "C")), ("missing", "no")
-        for paths, looks in ((("no", "b", "c"), ()), (("b", "no", "c"), (b,)), (("b", "c", "no"), (b, c)), (("b", "no", "no"), (b,))):
+        for paths, looks in ((("no", "b", "c"), ()), (("b", "no", "c"), (b,)), (("b", "c", "no"), (b, c)),
+                             (("b", "no", "no"), (b,))):
             self.assertEqual(ran(("m", "join", paths), *files), (none, looks + (none,)))
         for kind in ("size", "sort", "use"):
             self.assertEqual(ran(("m", kind, "no"), *files), (none, (none,)))
@@ -110,12 +116,15 @@ class Kinds(unittest.TestCase):
     def test_a_stopped_look_at_each_place(self):
         lack = ("o", "need", "b", "x")
         b, stop = ("text", "b", "B"), ("stopped", "o")
-        for rule, looks in ((("m", "join", ("o", "b")), ()), (("m", "join", ("b", "o", "b")), (b,)), (("m", "size", "o"), ()),
+        for rule, looks in ((("m", "join", ("o", "b")), ()), (("m", "join", ("b", "o", "b")), (b,)),
+                            (("m", "size", "o"), ()),
                             (("m", "sort", "o"), ()), (("m", "pick", "o", "x"), ()), (("m", "use", "o"), ()),
-                            (("m", "need", "o", "x"), ()), (("m", "choose", "o", "b", "b"), ()), (("m", "choose", "b", "b", "o"), (b,))):
+                            (("m", "need", "o", "x"), ()), (("m", "choose", "o", "b", "b"), ()),
+                            (("m", "choose", "b", "b", "o"), (b,))):
             with self.subTest(rule):
                 self.assertEqual(ran(rule, ("b", "B"), others=(lack,)), (stop, looks + (stop,)))
-        self.assertEqual(ran(("m", "use", "a"), ("a", "use o"), ("b", "B"), others=(lack,)), (stop, (("text", "a", "use o"), stop)))
+        self.assertEqual(ran(("m", "use", "a"), ("a", "use o"), ("b", "B"), others=(lack,)),
+                         (stop, (("text", "a", "use o"), stop)))
 
     def test_each_outcome_without_a_text_stops(self):
         for rule, outcome in ((("o", "size", "no"), ("missing", "no")), (("o", "need", "b", "x"), ("lacks",)),
@@ -126,14 +135,17 @@ class Kinds(unittest.TestCase):
             self.assertEqual(run(book, tree, "m"), (("stopped", "o"), (("stopped", "o"),)))
 
     def test_texts_of_400_and_401_signs(self):
-        two = Book((("two", "join", ("l", "l")), ("m", "sort", "two"), ("n", "size", "two"), ("o", "join", ("two", "x")), ("p", "size", "o")))
+        two = Book((("two", "join", ("l", "l")), ("m", "sort", "two"), ("n", "size", "two"),
+                    ("o", "join", ("two", "x")), ("p", "size", "o")))
         tree = (("l", LONG), ("x", "x"))
         self.assertEqual(clean(two, tree), (
-            ("m", ("text", LONG + LONG)), ("n", ("text", "400")), ("o", ("long",)), ("p", ("stopped", "o")), ("two", ("text", LONG + LONG))))
+            ("m", ("text", LONG + LONG)), ("n", ("text", "400")), ("o", ("long",)), ("p", ("stopped", "o")),
+                                            ("two", ("text", LONG + LONG))))
         self.assertEqual(run(two, tree, "o"), (("long",), (("text", "two", LONG + LONG), ("text", "x", "x"))))
 
     def test_long_texts_of_use_and_choose(self):
-        book = Book((("two", "join", ("l", "l")), ("m", "use", "a"), ("n", "choose", "y", "two", "no"), ("o", "need", "two", "zz")))
+        book = Book((("two", "join", ("l", "l")), ("m", "use", "a"), ("n", "choose", "y", "two", "no"),
+                     ("o", "need", "two", "zz")))
         tree = (("a", "use two"), ("l", LONG), ("y", "yes"))
         self.assertEqual([run(book, tree, made)[0] for made in ("m", "n", "o")], [("text", LONG + LONG)] * 3)
         self.assertEqual(run(book, (("a", "use two\n"),) + tree[1:], "m")[0], ("long",))
@@ -156,7 +168,8 @@ class Clean(unittest.TestCase):
         self.assertEqual(clean(Book(()), (("s", "y"),)), ())
 
     def test_rings(self):
-        book = Book((("a", "size", "b"), ("b", "join", ("s", "c")), ("c", "sort", "b"), ("d", "join", ("s",)), ("e", "size", "e"),
+        book = Book((("a", "size", "b"), ("b", "join", ("s", "c")), ("c", "sort", "b"), ("d", "join", ("s",)),
+                     ("e", "size", "e"),
                      ("f", "join", ("s", "a"))))
         ring = ("ring",)
         self.assertEqual(clean(book, (("s", "x"),)), (
@@ -166,9 +179,12 @@ class Clean(unittest.TestCase):
 
     def test_rings_that_are_come_to_only_on_the_way(self):
         book = Book((("a", "choose", "s", "b", "t"), ("b", "join", ("t", "a")), ("c", "use", "s")))
-        self.assertEqual(clean(book, (("s", "yes"), ("t", "x"))), (("a", ("ring",)), ("b", ("ring",)), ("c", ("text", "yes"))))
-        self.assertEqual(clean(book, (("s", "no"), ("t", "x"))), (("a", ("text", "x")), ("b", ("text", "xx")), ("c", ("text", "no"))))
-        self.assertEqual(clean(book, (("s", "yes"),)), (("a", ("stopped", "b")), ("b", ("missing", "t")), ("c", ("text", "yes"))))
+        self.assertEqual(clean(book, (("s", "yes"), ("t", "x"))),
+                         (("a", ("ring",)), ("b", ("ring",)), ("c", ("text", "yes"))))
+        self.assertEqual(clean(book, (("s", "no"), ("t", "x"))),
+                         (("a", ("text", "x")), ("b", ("text", "xx")), ("c", ("text", "no"))))
+        self.assertEqual(clean(book, (("s", "yes"),)), (("a", ("stopped", "b")), ("b", ("missing", "t")),
+                                                        ("c", ("text", "yes"))))
         found = Book((("c", "use", "s"), ("d", "size", "c")))
         self.assertEqual(clean(found, (("s", "x\nuse c"),)), (("c", ("ring",)), ("d", ("ring",))))
         self.assertEqual(clean(found, (("s", "use d"),)), (("c", ("ring",)), ("d", ("ring",))))
@@ -181,7 +197,8 @@ class Clean(unittest.TestCase):
             book, tree = some_book(dice), some_tree(dice, FILES + ("a",))
             with self.subTest(book.rules, tree=tree):
                 model = clean_model(book, tree)
-                self.assertEqual(clean(book, tree), tuple([(made, told[0] if told else ("ring",)) for made, told in model.items()]))
+                self.assertEqual(clean(book, tree), tuple([(made, told[0] if told else ("ring",)) for made,
+                                                           told in model.items()]))
                 for made, told in model.items():
                     self.assertEqual(run(book, tree, made), told or (("ring",), None))
                     outcomes[told[0][0] if told else "ring"] = True
@@ -190,7 +207,8 @@ class Clean(unittest.TestCase):
 
 class ReadsBehind(unittest.TestCase):
     def test_through_made_paths(self):
-        book = Book((("a", "join", ("b", "s")), ("b", "choose", "t", "c", "d"), ("c", "names", "lib"), ("d", "join", ("u", "no", "v"))))
+        book = Book((("a", "join", ("b", "s")), ("b", "choose", "t", "c", "d"), ("c", "names", "lib"),
+                     ("d", "join", ("u", "no", "v"))))
         tree = (("lib/x", ""), ("s", ""), ("t", "yes"), ("u", ""), ("v", ""))
         self.assertEqual(reads_behind(book, tree, "a"), ["b", "c", "s", "t"])
         self.assertEqual(reads_behind(book, tree, "c"), [])
@@ -206,7 +224,8 @@ class ReadsBehind(unittest.TestCase):
         self.assertEqual(reads_behind(book, (("s", "use b\nuse u"), ("t", "")), "a"), ["b", "s", "t", "u"])
 
     def test_as_far_as_rings_come(self):
-        book = Book((("a", "join", ("s", "c", "b", "t")), ("b", "join", ("u", "a")), ("c", "size", "v"), ("d", "join", ("c", "a", "u"))))
+        book = Book((("a", "join", ("s", "c", "b", "t")), ("b", "join", ("u", "a")), ("c", "size", "v"),
+                     ("d", "join", ("c", "a", "u"))))
         tree = (("s", ""), ("t", ""), ("u", ""), ("v", ""))
         self.assertEqual(reads_behind(book, tree, "a"), ["c", "s", "v"])
         self.assertEqual(reads_behind(book, tree, "b"), ["u"])
@@ -222,7 +241,8 @@ class ReadsBehind(unittest.TestCase):
             for made in MADE:
                 if model[made]:
                     paths = {look[1] for look in model[made][1] if look[0] != "names"}
-                    self.assertEqual(reads[made], sorted(paths.union(*[reads[path] for path in paths if path in model])))
+                    self.assertEqual(reads[made],
+                                     sorted(paths.union(*[reads[path] for path in paths if path in model])))
 
 
 class Wrong(unittest.TestCase):

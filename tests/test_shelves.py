@@ -70,7 +70,8 @@ class Rules(unittest.TestCase):
 
     def test_room_for_one(self):
         for rule in RULES:
-            self.assertEqual(shelf_course((rule, 1), (3, 3, 9, 3)), [(False, None), (True, None), (False, 3), (False, 9)])
+            self.assertEqual(shelf_course((rule, 1), (3, 3, 9, 3)),
+                             [(False, None), (True, None), (False, 3), (False, 9)])
             self.assertEqual([shelf_hits((rule, 1), (3, 3, 9, 3)), shelf_lies((rule, 1), (3, 3, 9, 3))], [1, (3,)])
 
     def test_no_requests(self):
@@ -94,7 +95,8 @@ class Rules(unittest.TestCase):
             with self.subTest(kind, requests=requests):
                 course, lies = shelf_model(kind, requests)
                 self.assertEqual(shelf_course(kind, requests), course)
-                self.assertEqual([shelf_hits(kind, requests), shelf_lies(kind, requests)], [len([1 for hit, _ in course if hit]), lies])
+                self.assertEqual([shelf_hits(kind, requests), shelf_lies(kind, requests)],
+                                 [len([1 for hit, _ in course if hit]), lies])
                 self.assertTrue(all(hit is True or hit is False for hit, _ in shelf_course(kind, requests)))
 
     def test_no_choices_have_more_hits_than_best(self):
@@ -107,8 +109,10 @@ class Rules(unittest.TestCase):
 
 class Wrong(unittest.TestCase):
     def test_kinds(self):
-        wrong = ("", (), "eldest", ("eldest",), ("eldest", 0), ("eldest", 4), ("eldest", True), ("eldest", "1"), ("eldest", None), ("eldest", (1,)), (1, "eldest"),
-                 ("Eldest", 1), ("oldest", 1), (None, 1), (("eldest",), 1), (["eldest"], 1), ["eldest", 1], {"eldest": 1}, ("eldest", 1, 1), ("best", -1))
+        wrong = ("", (), "eldest", ("eldest",), ("eldest", 0), ("eldest", 4), ("eldest", True), ("eldest", "1"),
+                 ("eldest", None), ("eldest", (1,)), (1, "eldest"),
+                 ("Eldest", 1), ("oldest", 1), (None, 1), (("eldest",), 1), (["eldest"], 1), ["eldest", 1],
+                 {"eldest": 1}, ("eldest", 1, 1), ("best", -1))
         for value in STRANGE + wrong:
             with self.subTest(value=value):
                 for call in (shelf_course, shelf_hits, shelf_lies):

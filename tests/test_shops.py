@@ -68,7 +68,8 @@ class Questions(unittest.TestCase):
             self.assertIsNone(first_apart(shop_of(), one, other))
 
     def test_builds_alone(self):
-        self.ask(shop_of(BUILD), always=(None, True, (0, 0)), moments=(None, True, None), records=(None, True, None), whole=(None, True, None))
+        self.ask(shop_of(BUILD), always=(None, True, (0, 0)), moments=(None, True, None), records=(None, True, None),
+                 whole=(None, True, None))
 
     def test_no_builds(self):
         shop = shop_of(("spoil", "out", "?"), ("back", "b", "?"), ("cut", 0))
@@ -77,34 +78,43 @@ class Questions(unittest.TestCase):
         self.assertIsNone(first_apart(shop, "records", "whole"))
 
     def test_a_file_that_is_put_back(self):
-        self.ask(shop_of(BUILD, ("back", "b", "?"), ("touch", "b")), always=(None, True, (0, 0)), moments=((0, 1, 0), False, (0, 2, 0)),
+        self.ask(shop_of(BUILD, ("back", "b", "?"), ("touch", "b")), always=(None, True, (0, 0)),
+                 moments=((0, 1, 0), False, (0, 2, 0)),
                  records=(None, True, None), whole=(None, True, None))
 
     def test_what_is_spoiled(self):
-        self.ask(shop_of(("spoil", "mid", "?"), BUILD), always=(None, True, (1, 1)), moments=((0, 1), False, (0, 1, 0, 1)),
+        self.ask(shop_of(("spoil", "mid", "?"), BUILD), always=(None, True, (1, 1)),
+                 moments=((0, 1), False, (0, 1, 0, 1)),
                  records=((1, 0, 1), False, None), whole=(None, True, None))
 
     def test_a_touch_runs_rules_needlessly_by_moments(self):
-        self.ask(shop_of(("touch", "a"), BUILD), always=(None, True, (1, 1)), moments=(None, True, (1, 0, 1)), records=(None, True, None),
+        self.ask(shop_of(("touch", "a"), BUILD), always=(None, True, (1, 1)), moments=(None, True, (1, 0, 1)),
+                 records=(None, True, None),
                  whole=(None, True, None))
 
     def test_swaps(self):
         books = CHAIN + (Book((("mid", "join", ("a",)), ("out", "join", ("mid", "b")))),)
-        self.ask(shop_of(BUILD, ("swap", 1), books=books), always=(None, True, (0, 0)), moments=((0, 1, 0), False, None),
+        self.ask(shop_of(BUILD, ("swap", 1), books=books), always=(None, True, (0, 0)),
+                 moments=((0, 1, 0), False, None),
                  records=((0, 1, 0), False, None), whole=(None, True, None))
 
     def test_names(self):
         books = (Book((("out", "names", ""),)),)
-        self.ask(shop_of(("drop", "a"), BUILD, books=books), always=(None, True, (1, 1)), moments=((1, 0, 1), False, None), records=(None, True, None))
+        self.ask(shop_of(("drop", "a"), BUILD, books=books), always=(None, True, (1, 1)),
+                 moments=((1, 0, 1), False, None), records=(None, True, None))
 
     def test_cuts(self):
-        self.ask(shop_of(("cut", 0), BUILD), always=(None, True, (0, 1)), moments=((0, 1), False, None), records=(None, True, None), whole=(None, True, None))
-        self.ask(shop_of(("cut", 1), BUILD), always=(None, True, (1, 1)), moments=((0, 1), False, None), records=(None, True, None), whole=(None, True, None))
-        self.ask(shop_of(("cut", 2), BUILD), always=(None, True, (0, 1)), moments=(None, True, None), records=(None, True, None), whole=(None, True, None))
+        self.ask(shop_of(("cut", 0), BUILD), always=(None, True, (0, 1)), moments=((0, 1), False, None),
+                 records=(None, True, None), whole=(None, True, None))
+        self.ask(shop_of(("cut", 1), BUILD), always=(None, True, (1, 1)), moments=((0, 1), False, None),
+                 records=(None, True, None), whole=(None, True, None))
+        self.ask(shop_of(("cut", 2), BUILD), always=(None, True, (0, 1)), moments=(None, True, None),
+                 records=(None, True, None), whole=(None, True, None))
 
     def test_a_file_that_is_put_back_in_a_cut_off_build(self):
         steps = (("cut", 0), ("write", "a", "longer"), BUILD)
-        self.ask(shop_of(*steps, books=SORT), always=(None, True, (2, 2)), moments=((0, 2), False, (1, 2, 1, 2)), whole=(None, True, None))
+        self.ask(shop_of(*steps, books=SORT), always=(None, True, (2, 2)), moments=((0, 2), False, (1, 2, 1, 2)),
+                 whole=(None, True, None))
 
     def test_apart(self):
         shop = shop_of(BUILD, ("back", "b", "?"), ("touch", "b"))
@@ -125,7 +135,8 @@ class Questions(unittest.TestCase):
         # Both rules look at the same, and make the same.
         books = SORT + (Book((("out", "join", ("a",)),)),)
         shop = shop_of(("swap", 1), BUILD, books=books, tree=(("a", "x"),))
-        self.ask(shop, records=(None, True, None), whole=(None, True, (1, 0, 1)), moments=(None, True, None), always=(None, True, (1, 1)))
+        self.ask(shop, records=(None, True, None), whole=(None, True, (1, 0, 1)), moments=(None, True, None),
+                 always=(None, True, (1, 1)))
         self.assertEqual(first_apart(shop, "records", "whole"), (1, 0, 1))
 
     def test_benches_that_stand_alike_but_for_their_moments(self):
@@ -181,10 +192,13 @@ class Rows(unittest.TestCase):
         shop = shop_of(BUILD, ("write", "a", "3\n2"), ("drop", "b"), ("cut", 0))
         self.assertEqual(follow(shop, "records", ()), [])
         self.assertEqual(left_by(shop, "records", ()), (TREE, ()))
-        self.assertEqual(follow(shop, "records", (0, 1, 0, 2, 0, 0)), [("out", "mid"), (), ("mid", "out"), (), ("out",), ()])
-        self.assertEqual(left_by(shop, "records", (0, 1, 0)), ((("a", "3\n2"), ("b", "!")), (("mid", "2\n3"), ("out", "2\n3!"))))
+        self.assertEqual(follow(shop, "records", (0, 1, 0, 2, 0, 0)),
+                         [("out", "mid"), (), ("mid", "out"), (), ("out",), ()])
+        self.assertEqual(left_by(shop, "records", (0, 1, 0)),
+                         ((("a", "3\n2"), ("b", "!")), (("mid", "2\n3"), ("out", "2\n3!"))))
         self.assertEqual(left_by(shop, "records", (0, 2, 0, 1)), ((("a", "3\n2"),), (("mid", "x\ny"),)))
-        self.assertEqual([follow(shop, "moments", (3, 0)), left_by(shop, "moments", (3,))], [[("mid",), ("out",)], (TREE, (("mid", "x"),))])
+        self.assertEqual([follow(shop, "moments", (3, 0)), left_by(shop, "moments", (3,))],
+                         [[("mid",), ("out",)], (TREE, (("mid", "x"),))])
 
     def test_rows_of_any_length(self):
         shop = shop_of(BUILD, ("touch", "b"))
@@ -200,7 +214,8 @@ class Rows(unittest.TestCase):
             row = tuple([dice.randrange(8) for _ in range(dice.randint(0, 12))])
             for way in WAYS:
                 builder = Builder(books, tree, aims, way)
-                self.assertEqual(follow(Shop(books, tree, aims, steps), way, row), [builder.do(steps[number]) for number in row])
+                self.assertEqual(follow(Shop(books, tree, aims, steps), way, row),
+                                 [builder.do(steps[number]) for number in row])
                 self.assertEqual(left_by(Shop(books, tree, aims, steps), way, row), (builder.tree, builder.lying))
 
     def test_a_row_changes_nothing_of_the_shop(self):
@@ -222,8 +237,10 @@ class Shops(unittest.TestCase):
         shop = shop_of(BUILD, ("drop", "a"))
         self.assertTrue(shop == Shop((Book(CHAIN[0].rules),), tuple(list(TREE)), ("out",), (BUILD, ("drop", "a"))))
         self.assertFalse(shop != shop_of(BUILD, ("drop", "a")))
-        for other in (shop_of(BUILD), shop_of(("drop", "a"), BUILD), shop_of(BUILD, ("drop", "a"), aims=()), shop_of(BUILD, ("drop", "a"), tree=()),
-                      shop_of(BUILD, ("drop", "a"), books=CHAIN * 2), shop_of(BUILD, ("drop", "a"), books=(Book(CHAIN[0].rules[::-1]),))):
+        for other in (shop_of(BUILD), shop_of(("drop", "a"), BUILD), shop_of(BUILD, ("drop", "a"), aims=()),
+                      shop_of(BUILD, ("drop", "a"), tree=()),
+                      shop_of(BUILD, ("drop", "a"), books=CHAIN * 2),
+                      shop_of(BUILD, ("drop", "a"), books=(Book(CHAIN[0].rules[::-1]),))):
             self.assertFalse(shop == other)
             self.assertTrue(shop != other)
         for value in STRANGE + ((BUILD, ("drop", "a")), CHAIN, ""):
@@ -235,7 +252,8 @@ class Shops(unittest.TestCase):
             index = 0 if isinstance(value, tuple) and len(value) < 9 else None
             with self.subTest(value=value):
                 self.assertEqual(fault(Shop, CHAIN, TREE, ("out",), value), (BadSteps, {"index": index}))
-        for thing in STRANGE + ((), ("cut", 21), ("swap", 1), ("write", "mid", ""), ("lose", "a"), ("build", 1), ["build"], ("cut", True)):
+        for thing in STRANGE + ((), ("cut", 21), ("swap", 1), ("write", "mid", ""), ("lose", "a"), ("build", 1),
+                                ["build"], ("cut", True)):
             self.assertEqual(fault(Shop, CHAIN, TREE, ("out",), (BUILD, thing, None)), (BadSteps, {"index": 1}))
             self.assertEqual(fault(Shop, CHAIN, TREE, ("out",), (BUILD,) * 7 + (thing,)), (BadSteps, {"index": 7}))
 
