@@ -4,7 +4,7 @@ from buildroom.looks import look_at, next_place, place_of
 
 
 class RingMet(Exception):
-    """A made path is wanted while it is itself being made, or looked at behind such a ring."""
+    """A made path is wanted while it is itself being made, or behind its fall to such a ring."""
 
 
 class Making:
@@ -32,16 +32,15 @@ class Making:
         except RingMet:
             for made in self.waiting:
                 self.empty(made)
-                self.ended[made] = True
                 self.fallen[made] = True
             self.waiting = []
 
     def make(self, made):
-        """Make a path, if it was not made in this build."""
+        """Make a path, if it was not made in this build; whoever comes to one of a ring falls to it, too."""
+        if made in self.waiting or made in self.fallen:
+            raise RingMet()
         if made in self.ended:
             return
-        if made in self.waiting:
-            raise RingMet()
         self.waiting.append(made)
         self.fill(made)
         self.waiting.pop()
@@ -52,8 +51,6 @@ class Making:
         word, where = place
         if word == "path" and where in self.table:
             self.make(where)
-            if where in self.fallen:
-                raise RingMet()
         return look_at(place, self.sources, self.table, self.left)
 
     def looks_of_run(self, made):

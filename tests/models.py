@@ -201,6 +201,8 @@ class BuilderModel:
             for path in told:
                 if path in self.rules:
                     self.bring(path, cut)
+                    if path in self.rings:
+                        raise Ring()
             there = [(self.lies if path in self.rules else self.files).get(path) for path in told]
             return lies is None or None in there or max([moment for _, moment in there], default=-1) > self.lies[made][1]
         if made not in self.runs:

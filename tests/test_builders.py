@@ -240,14 +240,14 @@ class Rings(unittest.TestCase):
 
     def test_who_looks_at_it_later_falls_too(self):
         for way, builder in builders(self.books, (("s", "1"),), ("p", "w", "x")):
-            self.assertEqual(builder.do(BUILD), ("x", "w") if way == "moments" else ("p", "q", "x", "w"))
+            self.assertEqual(builder.do(BUILD), ("x",) if way == "moments" else ("p", "q", "x", "w"))
             self.assertEqual(builder.lying, (("x", "1"),))
 
     def test_who_waits_for_one_that_looks_later_falls_too(self):
         books = (Book((("p", "size", "p"), ("v", "size", "x"), ("x", "join", ("s", "p")))),)
         for way, builder in builders(books, (("s", "1"),), ("p", "v")):
             told(builder, ("spoil", "v", "V"), ("spoil", "x", "X"))
-            self.assertEqual(builder.do(BUILD), {"moments": ("x",)}.get(way, ("p", "v", "x")))
+            self.assertEqual(builder.do(BUILD), () if way == "moments" else ("p", "v", "x"))
             self.assertEqual(builder.lying, ())
 
     def test_aims_of_a_ring_are_brought_up_once(self):
@@ -307,12 +307,48 @@ class Rings(unittest.TestCase):
             self.assertEqual(builder.do(BUILD), ("x",) if way == "moments" else ("p", "x"))
             self.assertEqual(builder.lying, (("x", "1"),))
 
-    def test_told_paths_that_fell_ahead_are_looked_at_by_the_run_alone(self):
+    def test_by_moments_who_tells_one_that_fell_ahead_falls_too(self):
         books = (Book((("p", "size", "p"), ("x", "choose", "s", "t", "p"), ("y", "join", ("no", "p")))),)
-        builder = Builder(books, (("s", "yes"), ("t", "T")), ("p", "x", "y"), "moments")
-        self.assertEqual([builder.do(BUILD), builder.lying, builder.right()], [("x", "y"), (("x", "T"),), True])
-        other = Builder(books, (("s", "yes"), ("t", "T")), ("x",), "moments")
-        self.assertEqual([other.do(BUILD), other.lying, other.right()], [(), (), False])
+        for aims in (("p", "x", "y"), ("p", "y"), ("x", "y"), ("x",), ("y",)):
+            builder = Builder(books, (("s", "yes"), ("t", "T")), aims, "moments")
+            told(builder, ("spoil", "x", "X"), ("spoil", "y", "Y"))
+            self.assertEqual([builder.do(BUILD), [pair for pair in builder.lying if pair[0] in aims]], [(), []])
+            self.assertIs(builder.right(), "x" not in aims)
+
+    def test_by_moments_it_is_the_same_how_one_comes_to_a_ring(self):
+        # q is told by all rules of each kind; it fell as an aim ahead of them, for one of them, or for one ahead.
+        kinds = (("join", ("s", "q")), ("size", "q"), ("sort", "q"), ("pick", "q", "x"), ("use", "q"), ("need", "q", "x"),
+                 ("choose", "q", "s", "s"), ("choose", "s", "q", "t"), ("choose", "s", "t", "q"))
+        for kind in kinds:
+            books = (Book((("q", "join", ("q",)), ("w", *kind), ("x", *kind), ("y", "join", ("t", "x", "s")),
+                           ("z", "choose", "s", "s", "y"))),)
+            for aims in (("q", "w", "x", "y", "z"), ("w", "x", "y", "z"), ("q", "z"), ("w", "z"), ("z",)):
+                for words in ("yes", "no"):
+                    builder = Builder(books, (("s", words), ("t", "T")), aims, "moments")
+                    told(builder, ("spoil", "z", "Z"))
+                    self.assertEqual([builder.do(BUILD), builder.lying], [(), ()])
+
+    def test_by_moments_one_told_ahead_of_a_fallen_one_is_brought_up(self):
+        books = (Book((("p", "size", "p"), ("v", "size", "s"), ("w", "size", "s"), ("x", "join", ("v", "p", "w")))),)
+        for aims in (("p", "x"), ("x",)):
+            builder = Builder(books, (("s", "12"),), aims, "moments")
+            self.assertEqual([builder.do(BUILD), builder.lying], [("v",), (("v", "2"),)])
+
+    def test_by_moments_a_run_that_falls_behind_its_beginning(self):
+        # What is found on the way is no told path: these rules are told old, and begin to run, ahead of their fall.
+        books = (Book((("p", "size", "p"), ("x", "use", "s"))),)
+        for aims in (("p", "x"), ("x",)):
+            builder = Builder(books, (("s", "use p"),), aims, "moments")
+            self.assertEqual([builder.do(BUILD), builder.lying], [("x",), ()])
+
+    def test_no_run_is_kept_of_those_that_fell_behind_a_ring(self):
+        books = (Book((("p", "choose", "s", "p", "t"), ("x", "join", ("t", "p")), ("y", "size", "x"))),)
+        for way in ("records", "whole"):
+            builder = Builder(books, (("s", "no"), ("t", "T")), ("p", "x", "y"), way)
+            self.assertEqual(told(builder, BUILD, BUILD), [("p", "x", "y"), ()])
+            self.assertEqual(told(builder, ("write", "s", "yes"), BUILD), [(), ("p",)])
+            self.assertEqual(builder.lying, ())
+            self.assertEqual(told(builder, ("write", "s", "no"), BUILD), [(), ("p", "x", "y")])
 
     def test_a_ring_in_one_build_is_none_in_the_next(self):
         books = (Book((("a", "use", "s"),)),)

@@ -145,6 +145,16 @@ class Questions(unittest.TestCase):
         shop = shop_of(BUILD, ("spoil", "mid", "x\ny"), ("lose", "out"))
         self.ask(shop, moments=(None, True, (0, 1, 0)), records=(None, True, (1, 0)))
 
+    def test_by_moments_who_tells_one_that_fell_to_a_ring_falls_too(self):
+        # o makes its text of b alone, but tells m, which is a ring: it falls, whether m is an aim ahead of it or not.
+        books = (Book((("m", "size", "m"), ("o", "choose", "a", "m", "b"))),)
+        for aims in (("m", "o"), ("o",)):
+            shop = shop_of(("write", "a", "no"), BUILD, books=books, tree=TREE, aims=aims)
+            self.ask(shop, moments=((1,), False, None), whole=(None, True, (1, 0, 1)))
+            self.assertEqual(first_apart(shop, "moments", "records"), (1,))
+            self.assertEqual([follow(shop, "moments", (1, 0, 1)), left_by(shop, "moments", (1, 1))],
+                             [[(), (), ()], (TREE, ())])
+
     def test_texts_that_grow_from_build_to_build(self):
         # Each book makes one text of the other one, with more signs, until there would be more than 400.
         one = Book((("x", "sort", "s"), ("y", "join", ("x", "x", "x", "t"))))
