@@ -1,6 +1,6 @@
 """Rules, and books of them: which paths are made, and which ones a rule tells to look at."""
 
-from buildroom.errors import BadBook, BadRules
+from buildroom.errors import BadBook, BadMade, BadRules
 from buildroom.paths import in_the_way, is_folder, is_path, is_text
 
 MOST_RULES = 8
@@ -71,14 +71,8 @@ def right_ring(book, value):
 def told_order(book):
     """The least order in which each made path stands behind those that its rule tells; None if there is none."""
     check_book(book)
-    told = told_made(book)
-    order = []
-    while len(order) < len(told):
-        ready = [made for made in told if made not in order and all([path in order for path in told[made]])]
-        if not ready:
-            return None
-        order.append(ready[0])
-    return tuple(order)
+    order = least_order(told_made(book))
+    return None if order is None else tuple(order)
 
 
 def right_order(book, value):
@@ -100,6 +94,18 @@ def depths(book):
     for made in order:
         depth[made] = 1 + max([depth[path] for path in told[made]], default=0)
     return [depth[made] for made in told]
+
+
+def least_order(needed):
+    """The least order of the keys of a table in which each stands behind those in its row; None if there is none."""
+    order = []
+    while len(order) < len(needed):
+        left = [key for key in sorted(needed) if key not in order]
+        ready = [key for key in left if not any([other in left for other in needed[key]])]
+        if not ready:
+            return None
+        order.append(ready[0])
+    return order
 
 
 def told_paths(rule):
@@ -170,3 +176,9 @@ def check_book(value):
     """Raise an error for any value that is no book."""
     if not isinstance(value, Book):
         raise BadBook()
+
+
+def check_made(book, value):
+    """Raise an error for any value that is no made path of a book."""
+    if value not in made_paths(book):
+        raise BadMade()

@@ -1,6 +1,7 @@
 """Records of runs: whether a value is one, what it tells, whether it replays, and what of it is enough."""
 
 from buildroom.books import check_book, is_rule
+from buildroom.counts import are_ascending
 from buildroom.errors import BadRecord, BadRule
 from buildroom.looks import LONGEST_MADE, next_place, outcome_by, picked_lines, place_of, sorted_lines
 from buildroom.paths import check_tree, has_signs, is_name
@@ -101,7 +102,7 @@ def are_names(value):
     """Whether any value is an ascending tuple of unlike names."""
     if not isinstance(value, tuple) or not all([isinstance(name, str) and is_name(name) for name in value]):
         return False
-    return all([one < two for one, two in zip(value, value[1:])])
+    return are_ascending(value)
 
 
 def check_rule(value):

@@ -3,7 +3,7 @@
 By "best" a state tells all lots that may lie there, and by how many hits each is behind the best of all.
 """
 
-from buildroom.counts import is_from_to
+from buildroom.counts import are_ascending, is_from_to
 
 MOST_COUNTED = 2
 
@@ -101,8 +101,3 @@ def are_lots(room, things, value):
     if not all([is_from_to(behind, 0, room - 1) for _, behind in value]):
         return False
     return are_ascending([lot for lot, _ in value]) and 0 in [behind for _, behind in value]
-
-
-def are_ascending(row):
-    """Whether each thing of a row is above the one ahead."""
-    return all([one < two for one, two in zip(row, row[1:])])

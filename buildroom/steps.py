@@ -1,7 +1,7 @@
 """What builders are passed: books, aims, ways and steps, and the checks of these."""
 
 from buildroom.books import Book, made_paths
-from buildroom.counts import is_from_to
+from buildroom.counts import are_ascending, is_from_to
 from buildroom.errors import BadAims, BadBooks, BadWay
 from buildroom.paths import is_path, is_text
 
@@ -63,7 +63,7 @@ def are_aims(value, books):
     tables = [made_paths(book) for book in books]
     if not isinstance(value, tuple) or not all([thing in paths for thing in value for paths in tables]):
         return False
-    return all([one < two for one, two in zip(value, value[1:])])
+    return are_ascending(value)
 
 
 def check_books(value):
