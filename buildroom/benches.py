@@ -2,8 +2,8 @@
 
 from buildroom.books import rule_table, told_paths
 from buildroom.builds import Build
-from buildroom.paths import MOST_FILES, in_the_way
-from buildroom.running import CleanBuild
+from buildroom.paths import MOST_FILES, ascending_pairs, in_the_way
+from buildroom.running import lies_clean
 
 # The one moment of all files that were put back, and that of the files at first.
 BACK = 0
@@ -118,12 +118,11 @@ class Bench:
 
     def is_right(self):
         """Whether just the texts of a clean build lie at the aims."""
-        texts = CleanBuild(self.books[self.chosen], self.sources).texts_made
-        return all([self.left.get(aim) == texts.get(aim) for aim in self.aims])
+        return lies_clean(self.books[self.chosen], self.sources, self.aims, self.left)
 
     def standing(self):
         """All that further steps hang on, as a tuple: benches of one way with equal ones go on alike."""
-        seen = (self.chosen, tuple(sorted(self.sources.items())), tuple(sorted(self.left.items())))
+        seen = (self.chosen, ascending_pairs(self.sources), ascending_pairs(self.left))
         if self.way == "moments":
             return seen + (self.later_pairs(),)
         if self.way == "records":

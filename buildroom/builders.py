@@ -2,7 +2,7 @@
 
 from buildroom.benches import Bench
 from buildroom.errors import BadStep
-from buildroom.paths import check_tree
+from buildroom.paths import ascending_pairs, check_tree
 from buildroom.steps import check_aims, check_books, check_way, is_step
 
 
@@ -24,14 +24,12 @@ class Builder:
     @property
     def tree(self):
         """The tree."""
-        sources = self._bench.sources
-        return tuple([(path, sources[path]) for path in sorted(sources)])
+        return ascending_pairs(self._bench.sources)
 
     @property
     def lying(self):
         """The pairs (made, text), ascending, of what lies."""
-        left = self._bench.left
-        return tuple([(made, left[made]) for made in sorted(left)])
+        return ascending_pairs(self._bench.left)
 
     def do(self, step):
         """Do a step, and return the made paths whose rules began to run, in this order."""

@@ -34,7 +34,7 @@ def put(tree, path, text):
         if len(files) == MOST_FILES:
             raise Full()
     files[path] = text
-    return tuple([(name, files[name]) for name in sorted(files)])
+    return ascending_pairs(files)
 
 
 def taken(tree, path):
@@ -53,6 +53,11 @@ def differing(one, other):
     first, second = dict(one), dict(other)
     paths = sorted(set(list(first) + list(second)))
     return [path for path in paths if first.get(path) != second.get(path)]
+
+
+def ascending_pairs(table):
+    """The pairs of the keys of a table, ascending, and what stands there: the tree, if it is a table of files."""
+    return tuple([(key, table[key]) for key in sorted(table)])
 
 
 def names_behind(files, folder):

@@ -1,8 +1,7 @@
 """Clean builds: every made path is made of the tree alone, in any order that goes."""
 
-from buildroom.books import check_book, rule_table
-from buildroom.errors import BadMade
-from buildroom.looks import look_at, next_place, outcome_by, text_of
+from buildroom.books import check_book, check_made, rule_table
+from buildroom.looks import look_at, next_place, outcome_by, place_of, text_of
 from buildroom.paths import check_tree
 
 RING = ("ring",)
@@ -49,11 +48,27 @@ class CleanBuild:
         if text_of(outcome) is not None:
             self.texts_made[made] = text_of(outcome)
 
+    def outcome_at(self, made):
+        """The outcome of a made path, that of a ring among them."""
+        return self.outcomes.get(made, RING)
+
     def look(self, place):
         """The look at a place, None at what is not made yet, or falls to a ring."""
         if place[0] == "path" and place[1] in self.table and place[1] not in self.outcomes:
             return None
         return look_at(place, self.sources, self.table, self.texts_made)
+
+    def places_come_to(self, made):
+        """What the rule of a made path looked at, in order, and behind it what it waits for in a ring."""
+        places = [place_of(look) for look in self.records[made]]
+        waited_for = next_place(self.table[made], self.records[made])
+        return places if waited_for is None else places + [waited_for]
+
+    def made_come_to(self):
+        """A dict: for each made path the made ones, perhaps some twice, among the places that its rule came to."""
+        table = self.table
+        return {made: [path for word, path in self.places_come_to(made) if word == "path" and path in table]
+                for made in table}
 
 
 def clean(book, tree):
@@ -61,7 +76,7 @@ def clean(book, tree):
     check_book(book)
     check_tree(tree)
     build = CleanBuild(book, tree)
-    return tuple([(made, build.outcomes.get(made, RING)) for made in build.table])
+    return tuple([(made, build.outcome_at(made)) for made in build.table])
 
 
 def run(book, tree, made):
@@ -85,11 +100,15 @@ def reads_behind(book, tree, made):
     return sorted(found)
 
 
+def lies_clean(book, tree, aims, left):
+    """Whether at some made paths just the texts of a clean build lie, by the table of what lies."""
+    texts = CleanBuild(book, tree).texts_made
+    return all([left.get(aim) == texts.get(aim) for aim in aims])
+
+
 def build_for(book, tree, made):
     """The clean build that is asked about a made path; an error for wrong values of the three."""
     check_book(book)
     check_tree(tree)
-    build = CleanBuild(book, tree)
-    if not isinstance(made, str) or made not in build.table:
-        raise BadMade()
-    return build
+    check_made(book, made)
+    return CleanBuild(book, tree)

@@ -3,7 +3,7 @@
 from buildroom.benches import Bench
 from buildroom.counts import is_from_to
 from buildroom.errors import BadRow, BadShop, BadSteps
-from buildroom.paths import check_tree
+from buildroom.paths import ascending_pairs, check_tree
 from buildroom.steps import check_aims, check_books, check_way, is_step
 
 MOST_STEPS = 8
@@ -76,7 +76,7 @@ def left_by(shop, way, row):
     bench = shop.new_bench(way)
     for number in row:
         bench.do(shop.steps[number])
-    return (tuple(sorted(bench.sources.items())), tuple(sorted(bench.left.items())))
+    return (ascending_pairs(bench.sources), ascending_pairs(bench.left))
 
 
 def first_row(shop, ways, words, ends):

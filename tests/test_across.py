@@ -1,18 +1,26 @@
-"""Of point 37 what speaks of builders, records, stores and shelves."""
+"""Point 37: what holds across the parts of the program; a test at least for each of its sentences."""
 
 import random
 import unittest
 
-from buildroom.books import Book
+from buildroom.books import Book, told_ring
 from buildroom.builders import Builder
 from buildroom.caches import Store, true_entry
+from buildroom.changes import moved, needed, same_moved
+from buildroom.desk import Desk
+from buildroom.jobs import plan_of
+from buildroom.machines import best_schedule, least_end, schedule_end
 from buildroom.records import blunt_replays, replays
 from buildroom.running import clean, run
 from buildroom.shelves import shelf_hits
 from buildroom.shops import Shop, follow, left_by
+from buildroom.slots import count_stuck, fewest_slots, never_stuck
+from buildroom.tellback import explained, least_explained, sure_done, sure_files, sure_runs
+from buildroom.texts import book_text, read_book, read_steps, read_tree, steps_text, tree_text
 from tests.chance import MADE, some_aims, some_book, some_step, some_tree
 
 BUILD = ("build",)
+WAYS = ("always", "moments", "records", "whole")
 
 
 def clean_texts(book, tree, aims):
@@ -30,9 +38,10 @@ class Across(unittest.TestCase):
             row = [some_step(dice, MADE, len(books)) for _ in range(8)] + [BUILD]
             store = Store(dice.randint(0, 20), dice.choice(("eldest", "lately")), ())
             for way in ("always", "whole"):
-                builder = Builder(books, tree, aims, way)
+                builder, desk = Builder(books, tree, aims, way), Desk(books, tree, aims, way)
                 for step in row:
-                    builder.do(step)
+                    self.assertEqual(desk.do(step), builder.do(step))
+                self.assertEqual([desk.texts, desk.files, desk.right()], [builder.lying, builder.tree, True])
                 book = books[builder.number]
                 texts = clean_texts(book, builder.tree, aims)
                 self.assertEqual(tuple([dict(builder.lying).get(aim) for aim in aims]), texts)
@@ -94,6 +103,106 @@ class Across(unittest.TestCase):
             shop = Shop(books, tree, aims, steps)
             self.assertEqual([follow(shop, "records", row), left_by(shop, "records", row)],
                              [ran, (builder.tree, builder.lying)])
+
+    def test_what_runs_in_a_first_build_is_the_plan_of_its_jobs(self):
+        dice = random.Random(42)
+        for _ in range(150):
+            book, tree = some_book(dice), some_tree(dice)
+            made = tuple([path for path, _ in clean(book, tree)])
+            rings = [path for path, outcome in clean(book, tree) if outcome == ("ring",)]
+            paths, plan = plan_of(book, tree, (1,) * len(book))
+            self.assertEqual(len(plan), len(paths))
+            for way in ("always", "records", "whole"):
+                for builder in (Builder((book,), tree, made, way), Desk((book,), tree, made, way)):
+                    self.assertEqual(sorted(set(builder.do(BUILD)) - set(rings)), sorted(paths))
+            self.assertEqual(sorted(set(needed(book, tree, made)) - set(rings)), sorted(paths))
+
+    def test_by_moments_what_runs_in_a_first_build_is_the_plan_if_there_is_no_told_ring(self):
+        dice, many = random.Random(43), 0
+        for _ in range(150):
+            book, tree = some_book(dice), some_tree(dice)
+            if told_ring(book) is None and not any(rule[1] == "use" for rule in book.rules):
+                made = tuple([path for path, _ in clean(book, tree)])
+                ran = Builder((book,), tree, made, "moments").do(BUILD)
+                self.assertEqual(sorted(ran), sorted(plan_of(book, tree, (1,) * len(book))[0]))
+                many += 1
+        self.assertGreater(many, 10)
+
+    def test_plans_of_jobs_on_one_machine_and_with_a_slot_for_each(self):
+        dice, many = random.Random(44), 0
+        for _ in range(100):
+            book, tree = some_book(dice), some_tree(dice)
+            lengths = tuple([dice.randint(1, 99) for _ in book.rules])
+            paths, plan = plan_of(book, tree, lengths)
+            if plan != ():
+                many += 1
+                length_of = dict(zip([rule[0] for rule in book.rules], lengths))
+                total = sum(length_of[made] for made in paths)
+                for room in (1, 99):
+                    self.assertEqual(least_end(plan, 1, room), total)
+                    self.assertEqual(schedule_end(plan, 1, room, best_schedule(plan, 1, room)), total)
+                self.assertIs(never_stuck(plan, len(plan)), True)
+                self.assertEqual(count_stuck(plan, len(plan)), 0)
+                self.assertLessEqual(fewest_slots(plan), len(plan))
+        self.assertGreater(many, 50)
+
+    def test_all_steps_of_a_desk_can_be_taken_back_and_done_again(self):
+        dice = random.Random(45)
+        for number in range(40):
+            books, tree = tuple([some_book(dice) for _ in range(2)]), some_tree(dice)
+            desk = Desk(books, tree, some_aims(dice, MADE), WAYS[number % 4])
+            shown = [(desk.texts, desk.files, desk.right())]
+            for _ in range(12):
+                desk.do(some_step(dice, MADE, 2))
+                shown.append((desk.texts, desk.files, desk.right()))
+            row, would = desk.row, desk.would(BUILD)
+            for standing in reversed(shown[:-1]):
+                self.assertIs(desk.undo(), True)
+                self.assertEqual((desk.texts, desk.files, desk.right()), standing)
+            self.assertEqual([desk.undo(), desk.texts, desk.files, desk.row], [False, (), tree, ()])
+            for standing in shown[1:]:
+                self.assertIs(desk.redo(), True)
+                self.assertEqual((desk.texts, desk.files, desk.right()), standing)
+            self.assertEqual([desk.redo(), desk.row, desk.would(BUILD)], [False, row, would])
+
+    def test_a_row_that_was_done_explains_what_lies(self):
+        dice = random.Random(46)
+        for number in range(60):
+            books, tree, aims = (some_book(dice), some_book(dice)), some_tree(dice), some_aims(dice, MADE)
+            steps = tuple([some_step(dice, MADE, 2) for _ in range(4)])
+            row = tuple([dice.randrange(4) for _ in range(dice.randint(0, 3))])
+            shop, way, builder = Shop(books, tree, aims, steps), WAYS[number % 4], Builder(books, tree, aims, WAYS[number % 4])
+            ran = {made for at in row for made in builder.do(steps[at])}
+            told = (shop, way, len(row), builder.lying)
+            self.assertIn(row, explained(*told))
+            self.assertLessEqual((len(least_explained(*told)), least_explained(*told)), (len(row), row))
+            self.assertLessEqual(set(sure_done(*told)), set(row))
+            self.assertLessEqual(set(sure_runs(*told)), ran)
+            self.assertLessEqual(set(sure_files(*told)), set(builder.tree))
+
+    def test_a_path_that_is_renamed_everywhere_changes_nothing_but_itself(self):
+        dice = random.Random(47)
+        kinds = ("join", "size", "sort", "pick", "choose", "need")
+        for _ in range(150):
+            book, tree = some_book(dice, kinds=kinds), some_tree(dice)
+            old = dice.choice([path for path, _ in tree] + [rule[0] for rule in book.rules])
+            then = dict(clean(*moved(book, tree, old, "n/e/w")))
+            self.assertIs(same_moved(book, tree, old, "n/e/w"), True)
+            for made, outcome in clean(book, tree):
+                if outcome[0] in ("missing", "stopped") and outcome[1] == old:
+                    outcome = (outcome[0], "n/e/w")
+                self.assertEqual(then["n/e/w" if made == old else made], outcome)
+
+    def test_written_and_read_again_shops_are_equal(self):
+        dice = random.Random(48)
+        for _ in range(60):
+            books = tuple([some_book(dice) for _ in range(dice.randint(1, 3))])
+            tree, aims = some_tree(dice), some_aims(dice, MADE)
+            steps = tuple([some_step(dice, MADE, len(books)) for _ in range(dice.randint(0, 8))])
+            again = Shop(tuple([read_book(book_text(book)) for book in books]), read_tree(tree_text(tree)), aims,
+                         read_steps(steps_text(steps)))
+            self.assertEqual(again, Shop(books, tree, aims, steps))
+            self.assertEqual(again.steps, steps)
 
 
 if __name__ == "__main__":

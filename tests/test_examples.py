@@ -103,6 +103,91 @@ LEADS = r'''
 [(1, (0, 1, 0, 2, 1)), (1, (0, 1, 0, 2, 0)), 2]
 '''
 
+MACHINES = r'''
+>>> from buildroom.machines import best_schedule, least_end, least_machines, plan_bounds, schedule_end
+>>> plan = ((3, (), 1), (2, (), 1), (2, (1,), 2), (4, (), 1))
+>>> [least_end(plan, 2, 9), plan_bounds(plan, 2, 9), least_end(plan, 2, 2), least_end(plan, 1, 9), least_end(plan, 4, 1)]
+[6, (4, 6, 2), 7, 11, None]
+>>> [schedule_end(plan, 2, 9, best_schedule(plan, 2, 9)), schedule_end(plan, 2, 9, ((0, 0), (0, 1), (2, 1), (2, 0))), least_machines(plan, 9, 5), least_machines(plan, 9, 3)]
+[6, None, 3, None]
+'''
+
+LISTS = r'''
+>>> from buildroom.lists import best_order, count_orders, list_count, list_end, list_schedule, list_surprises, worst_order
+>>> plan = ((3, (), 1), (2, (), 1), (2, (1,), 2), (4, (), 1))
+>>> [list_schedule(plan, 2, 9, (0, 1, 2, 3)), list_end(plan, 2, 9, (0, 1, 2, 3)), worst_order(plan, 2, 9), best_order(plan, 2, 9)]
+[((0, 0), (0, 1), (2, 1), (3, 0)), 7, (7, (0, 1, 2, 3)), (6, (0, 1, 3, 2))]
+>>> [count_orders(plan), list_count(plan, 1, 9, 11), list_end(plan, 2, 1, (0, 1, 2, 3)), list_surprises(plan, 2, 1, (0, 1, 2, 3))]
+[12, 24, None, []]
+'''
+
+SLOTS = r'''
+>>> from buildroom.slots import count_stuck, fewest_slots, never_stuck, safe_starts, stuck_row
+>>> plan = ((1, (), 0), (1, (0,), 0), (1, (0, 1), 0))
+>>> [stuck_row(plan, 1), stuck_row(plan, 2), never_stuck(plan, 2), fewest_slots(plan), count_stuck(plan, 1)]
+[(('start', 1),), (('start', 1), ('start', 2)), False, 3, 3]
+>>> [safe_starts(plan, 1, (), ()), safe_starts(plan, 2, (), (2,)), safe_starts(plan, 2, (0,), ()), safe_starts(plan, 1, (), (1,))]
+[[0], [0], [1, 2], []]
+'''
+
+JOBS = r'''
+>>> from buildroom.books import Book
+>>> from buildroom.jobs import plan_of
+>>> book = Book((("out", "join", ("a", "mid", "n")), ("mid", "sort", "a"), ("n", "size", "mid"), ("z", "use", "z")))
+>>> plan_of(book, (("a", "b"),), (5, 2, 3, 9))
+(('mid', 'n', 'out'), ((2, (), 1), (3, (0,), 1), (5, (0, 1), 1)))
+'''
+
+CHANGES = r'''
+>>> from buildroom.books import Book
+>>> from buildroom.changes import changed, edited_tree, fewest_edits, may_touch, moved, needed, same_moved, touched
+>>> rules = (("all", "join", ("one", "s")), ("one", "choose", "t", "s", "u"), ("list", "names", ""))
+>>> book, tree = Book(rules), (("s", "ab"), ("t", "yes"), ("u", "c"))
+>>> found = [changed(book, tree, (("write", "s", "x"),)), edited_tree(book, tree, (("drop", "t"),)), touched(book, tree, "u")]
+>>> found = found + [may_touch(book, "u"), needed(book, tree, ("all",)), moved(book, tree, "s", "new")[1]]
+>>> found = found + [fewest_edits(book, tree, (("write", "t", "no"), ("write", "u", "ab")), "all", "cab")]
+>>> found + [same_moved(book, tree, "s", "new"), same_moved(book, tree, "one", "two")]
+[['all', 'one'], (('s', 'ab'), ('u', 'c')), ['list'], ['all', 'list', 'one'], ['all', 'one'], (('new', 'ab'), ('t', 'yes'), ('u', 'c')), [(0,)], False, True]
+'''
+
+TELLBACK = r'''
+>>> from buildroom.books import Book
+>>> from buildroom.shops import Shop
+>>> from buildroom.tellback import cut_kinds, explained, least_explained, sure_done, sure_files, sure_runs, which_books, which_cuts
+>>> one = Book((("a", "join", ("s", "s")), ("b", "size", "a")))
+>>> two = Book((("a", "join", ("s", "t")), ("b", "size", "a")))
+>>> tree, seen = (("s", "x"), ("t", "z")), (("a", "xx"), ("b", "2"))
+>>> shop = Shop((one, two), tree, ("b",), (("build",), ("write", "s", "xy"), ("swap", 1), ("cut", 0)))
+>>> found = [explained(shop, "whole", 1, seen), least_explained(shop, "whole", 3, seen), sure_done(shop, "whole", 2, seen)]
+>>> found = found + [sure_runs(shop, "whole", 2, seen), sure_files(shop, "whole", 2, seen), which_books((one, two), tree, ("b",), seen)]
+>>> found + [which_cuts((one,), tree, ("b",), "whole", (("a", "xx"), ("b", ""))), cut_kinds((one,), tree, ("b",), "whole")]
+[[(0,)], (0,), [0], ['a', 'b'], (('t', 'z'),), [0, 1], [0], [[0], [1]]]
+'''
+
+TEXTS = r'''
+>>> from buildroom.books import Book
+>>> from buildroom.texts import book_text, read_book, read_tree, tree_text
+>>> tree = (("a", "one\ntwo"), ("b/c", ""))
+>>> book = Book((("all", "join", ("a", "b/c")), ("out/n", "names", ""), ("p", "pick", "all", "wo")))
+>>> [tree_text(tree).split("\n"), read_tree(tree_text(tree)) == tree, book_text(book).split("\n"), read_book(book_text(book)) == book]
+[['file a', '| one', '| two', 'file b/c', '| '], True, ['rule all join a b/c', 'rule out/n names', 'rule p pick all wo'], True]
+
+>>> from buildroom.texts import read_steps, steps_text
+>>> row = (("write", "a", "x\n"), ("drop", "b/c"), ("swap", 1), ("build",), ("cut", 0))
+>>> [steps_text(row).split("\n"), read_steps(steps_text(row)) == row, steps_text(()), read_steps("")]
+[['write a', '| x', '| ', 'drop b/c', 'swap 1', 'build', 'cut 0'], True, '', ()]
+'''
+
+DESK = r'''
+>>> from buildroom.books import Book
+>>> from buildroom.desk import Desk
+>>> desk = Desk((Book((("out", "sort", "a"),)),), (("a", "b\na"),), ("out",), "whole")
+>>> [desk.would(("build",)), desk.texts, desk.do(("build",)), desk.do(("spoil", "out", "x")), desk.would(("build",)), desk.undo(), desk.would(("build",))]
+[('out',), (), ('out',), (), ('out',), True, ()]
+>>> [desk.redo(), desk.texts, desk.redo(), len(desk), desk.row, desk.undo(), desk.right()]
+[True, (('out', 'x'),), False, 2, (('build',), ('spoil', 'out', 'x')), True, True]
+'''
+
 
 class Examples(unittest.TestCase):
     def test_paths(self):
@@ -131,6 +216,30 @@ class Examples(unittest.TestCase):
 
     def test_leads(self):
         self.assertEqual(wrong_examples(LEADS), [])
+
+    def test_machines(self):
+        self.assertEqual(wrong_examples(MACHINES), [])
+
+    def test_lists(self):
+        self.assertEqual(wrong_examples(LISTS), [])
+
+    def test_slots(self):
+        self.assertEqual(wrong_examples(SLOTS), [])
+
+    def test_jobs(self):
+        self.assertEqual(wrong_examples(JOBS), [])
+
+    def test_changes(self):
+        self.assertEqual(wrong_examples(CHANGES), [])
+
+    def test_tellback(self):
+        self.assertEqual(wrong_examples(TELLBACK), [])
+
+    def test_texts(self):
+        self.assertEqual(wrong_examples(TEXTS), [])
+
+    def test_desk(self):
+        self.assertEqual(wrong_examples(DESK), [])
 
     def test_an_example_that_does_not_hold_is_told(self):
         self.assertEqual(wrong_examples(">>> 1 + 1\n3\n>>> int('x')\n4"), [
